@@ -1,0 +1,75 @@
+"""The interface: each name in its file, with the parameters that the document shows."""
+
+import ast
+import importlib
+import inspect
+import pathlib
+import unittest
+
+import underwraps
+
+FUNCTIONS = {
+    "books": {
+        "is_permit": "roles labels thing", "is_start": "book thing", "is_less": "book other",
+        "without": "book permits", "called": "book names", "start_called": "book start names", "used_roles": "book",
+    },
+    "houses": {"is_call": "book thing"},
+    "things": {
+        "is_key": "book thing", "is_thing": "book thing", "next_key": "book key label",
+        "is_behind": "book key thing", "depth_of": "book thing", "keys_in": "book thing", "knows": "book things thing",
+    },
+    "ways": {"way_fault": "book things thing way", "way_to": "book things thing"},
+    "chests": {
+        "gist": "book things", "counts": "book chest thing", "chest_fault": "book things chest",
+        "enough_keys": "book things thing",
+    },
+    "logs": {
+        "log_fault": "book start thing", "played": "book start log", "log_answers": "book start log",
+        "log_tells": "book start log key", "permits_used": "book start log", "left_out": "book start log index",
+        "thinned_log": "book start log key", "log_behind": "book start log other", "log_rounds": "book start log",
+        "in_rounds": "book start log",
+    },
+}
+CLASSES = {
+    "books": ("Book", {
+        "__init__": "self roles labels permits", "all_roles": "self", "all_labels": "self", "all_permits": "self",
+        "__eq__": "self other",
+    }),
+    "houses": ("House", {
+        "__init__": "self book start", "handles": "self", "out": "self", "book": "self", "start": "self",
+        "copy": "self", "call": "self call", "__eq__": "self other",
+    }),
+}
+PACKAGE = pathlib.Path(underwraps.__file__).parent
+
+
+def tree_of(name):
+    return ast.parse((PACKAGE / (name + ".py")).read_text())
+
+
+class TestInterface(unittest.TestCase):
+    def test_functions(self):
+        for name, functions in FUNCTIONS.items():
+            module = importlib.import_module("underwraps." + name)
+            defined = [node.name for node in tree_of(name).body if isinstance(node, ast.FunctionDef)]
+            for function, parameters in functions.items():
+                self.assertIn(function, defined)
+                self.assertEqual(list(inspect.signature(getattr(module, function)).parameters), parameters.split())
+
+    def test_classes(self):
+        for name, (word, methods) in CLASSES.items():
+            module = importlib.import_module("underwraps." + name)
+            defined = [node.name for node in tree_of(name).body if isinstance(node, ast.ClassDef)]
+            self.assertIn(word, defined)
+            for method, parameters in methods.items():
+                found = vars(getattr(module, word))[method]
+                self.assertEqual(list(inspect.signature(found).parameters), parameters.split())
+
+    def test_sizes(self):
+        for path in PACKAGE.glob("*.py"):
+            lines = path.read_text().splitlines()
+            self.assertLessEqual(len(lines), 399, path.name)
+            self.assertLessEqual(max([len(line) for line in lines]), 120, path.name)
+            for node in ast.walk(ast.parse(path.read_text())):
+                if isinstance(node, ast.FunctionDef):
+                    self.assertLessEqual(node.end_lineno - node.lineno + 1, 40, node.name)
