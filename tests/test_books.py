@@ -205,6 +205,8 @@ class TestCalled(WrapCase):
             ["data"], ["data", "kek"], [],
         ])
         self.assertEqual(names, {"kek": "data", "data": "kek"})
+        turned = {"data": "kek", "kek": "data"}
+        self.assertEqual(called(names=turned, book=example()), called(example(), names))
 
     def test_labels_and_alike(self):
         book = Book(["make", "b"], ["make", "y"], [("derive", "make", "make", "b"), ("make", "make")])
@@ -259,6 +261,8 @@ class TestUsedRoles(WrapCase):
         self.assertEqual(used_roles(Book(["a", "b"], ["x"], [])), [])
         self.assertEqual(used_roles(Book(["a", "b", "c"], ["b"], [("derive", "c", "b", "a")])), ["a", "c"])
         self.assertEqual(used_roles(book=Book(["a", "show"], [], [("show", "a")])), ["a"])
+        roles = list("hgfedcba")
+        self.assertEqual(used_roles(Book(roles, [], [("copy", role, "d") for role in roles])), sorted(roles))
 
     def test_errors(self):
         for thing in odd_things():

@@ -122,7 +122,7 @@ class TestHouse(WrapCase):
             for thing in odd_things() + [BOOK]:
                 self.says(False, house == thing)
 
-    def test_equal_only_by_made(self):
+    def test_made_or_brought(self):
         book = Book(["a"], [], [("make", "a"), ("bring", "a"), ("show", "a")])
         one, other = House(book, []), House(book, [])
         for house, calls in [

@@ -115,8 +115,8 @@ def likely_keys(nests):
 
 
 def parting_key(key, other):
-    """Return the last key, of those with both behind them, or one of both itself."""
+    """Return of two unlike keys with one base the key where their words part."""
     many = 0
-    while key[1][:many + 1] == other[1][:many + 1] and many < len(key[1]):
+    while key[1][:many + 1] == other[1][:many + 1]:
         many += 1
     return (key[0], key[1][:many])

@@ -62,8 +62,11 @@ def thinned_log(book, start, log, key):
         raise Untold(key)
     for index in reversed(range(len(play.deeds))):
         left, makes = play_without(play, index)
+        if left is None:
+            continue
+        # The key is not gone with this call: some later one names whatever makes a key that is told.
         led = led_key(found, makes)
-        if left is not None and led is not None and left.house.is_known((led,)):
+        if left.house.is_known((led,)):
             play, found = left, led
     return (log_of(play), found)
 

@@ -15,11 +15,6 @@ STEPS = {
 }
 
 
-def own_key(number):
-    """Return an own key with no labels."""
-    return (("own", number), ())
-
-
 def is_part(book, nests, kind, part):
     """Tell whether any object is what a step may have there."""
     if kind == "label":
@@ -37,7 +32,7 @@ def step_nest(book, had, nests, step):
     if step[0] == "had":
         return had[step[1]] if step[1] < len(had) else None
     if step[0] == "own":
-        return (own_key(step[1]),)
+        return ((("own", step[1]), ()),)
     if len(nests[step[1]]) > 1:
         return None
     return nest_with(nests[step[1]][0], step, nests)
@@ -113,8 +108,10 @@ class Trail:
     def needed_for(self, goal):
         """Return the nests to have or to open on the way, each behind what it is opened by."""
         at = self.core_of(goal)
-        todo = [nest for key in goal[:at] for nest in self.start_of(key)]
-        todo.extend(self.start_of(goal[at]) if at == len(goal) - 1 else [goal[at:]])
+        if at == len(goal) - 1:
+            todo = self.roots_of(goal)
+        else:
+            todo = self.roots_of(goal[:at]) + [goal[at:]]
         needed = {}
         while todo:
             nest = todo.pop()
@@ -128,34 +125,28 @@ class Trail:
         if nest in self.had:
             return []
         whole = self.known.seen[nest]
-        return [whole] + self.start_of(whole[0])
+        return [whole] + self.roots_of(whole[:1])
 
-    def start_of(self, key):
-        """Return the nest from which the steps to a key go on, in a list; none, if they are all own."""
-        if (key,) in self.had:
-            return [(key,)]
-        if key[0][0] == "own":
-            return []
+    def roots_of(self, keys):
+        """Return the nests from which the steps to keys that are known go on, without own ones."""
         # The root that came first was there before whatever the key opens: so no way runs in a ring.
-        return [(self.known.root_of(key),)]
+        roots = [self.known.root_of(key) for key in keys]
+        return [(root,) for root in roots if root[0][0] != "own"]
 
     def come_to(self, nest):
-        """Return the index of the step that has a nest that was had or opened."""
+        """Make the step that has a nest, those that it needs being made."""
         if nest in self.had:
-            return self.step(nest, ("had", self.had[nest]))
-        if nest not in self.places:
+            self.step(nest, ("had", self.had[nest]))
+        elif nest not in self.places:
             whole = self.known.seen[nest]
             self.step(nest, ("open", self.key_step(whole[0]), self.places[whole]))
-        return self.places[nest]
 
     def key_step(self, key):
         """Return the index of the step that has a key that is known."""
-        starts = self.start_of(key)
-        if starts:
-            at, place = starts[0][0], self.come_to(starts[0])
-        else:
-            at = own_key(key[0][1])
-            place = self.step((at,), ("own", key[0][1]))
+        at = self.known.root_of(key)
+        if at[0][0] == "own":
+            self.step((at,), ("own", at[0][1]))
+        place = self.places[(at,)]
         for label in key[1][len(at[1]):]:
             at = key_by(at, label)
             place = self.step((at,), ("next", place, label))
