@@ -29,6 +29,23 @@ FUNCTIONS = {
         "thinned_log": "book start log key", "log_behind": "book start log other", "log_rounds": "book start log",
         "in_rounds": "book start log",
     },
+    "states": {
+        "states_of": "book", "moves_of": "book", "roots_of": "book start", "first_states": "book start root",
+        "is_asked": "book start thing",
+    },
+    "leading": {"leads_to": "book start ties asked", "pairs_of": "book start ties"},
+    "bunches": {"bunches_of": "book start ties", "least_key": "book start ties states"},
+    "ties": {"ties_closed": "book ties", "ties_thinned": "book ties"},
+    "machines": {
+        "machine_wants": "book start machine", "machine_lack": "book start machine", "is_closed": "book start thing",
+        "least_machine": "book start", "grown": "book start machine", "machines_met": "book machine second",
+    },
+    "strays": {"strays": "book start ties house"},
+    "proofs": {
+        "proof_fault": "book start asked state thing", "is_proof": "book start asked state thing",
+        "row_says": "book start rows index", "told_proof": "book start asked state",
+    },
+    "ranks": {"machine_ranks": "book start", "ranks_fault": "book start thing", "asked_rank": "book start asked state"},
 }
 CLASSES = {
     "books": ("Book", {

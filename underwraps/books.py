@@ -1,7 +1,7 @@
 """Books: what each key may be used for. Starts: the keys that a house holds from the beginning."""
 
 from underwraps.errors import BadBook, BadLabels, BadNames, BadOther, BadPermits, BadRoles, BadStart
-from underwraps.forms import are_names, first_word, is_list
+from underwraps.forms import are_names, first_word, first_wrong, is_list
 
 # What stands behind the word of a permit.
 PERMITS = {
@@ -84,11 +84,9 @@ def need_book(book):
 
 def need_unlike(rows):
     """Raise BadPermits for the first row that is None, or stood ahead."""
-    seen = {}
-    for index, row in enumerate(rows):
-        if row is None or row in seen:
-            raise BadPermits(index)
-        seen[row] = True
+    wrong = first_wrong(rows)
+    if wrong is not None:
+        raise BadPermits(wrong)
 
 
 def read_permit(roles, labels, thing):

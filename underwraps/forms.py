@@ -33,3 +33,13 @@ def first_word(thing):
     if is_list(thing) and len(thing) > 0 and isinstance(thing[0], str):
         return thing[0]
     return ""
+
+
+def first_wrong(rows):
+    """Return the index of the first row that is None, or stood ahead, None if there is none."""
+    seen = {}
+    for index, row in enumerate(rows):
+        if row is None or row in seen:
+            return index
+        seen[row] = True
+    return None

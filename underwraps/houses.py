@@ -90,6 +90,10 @@ class House:
         """Tell whether a nest is known by what has come out."""
         return self._known.has(nest)
 
+    def known_keys(self):
+        """Return the ascending list of the keys that are known, no own ones and behind no known one."""
+        return self._known.least_keys()
+
     def carry_out(self, deed):
         """Do a deed that is let; return the new handle's number, or the nest that comes out."""
         keys = self.keys_of(deed)

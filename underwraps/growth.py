@@ -1,0 +1,33 @@
+"""Growth: facts, and all that they want, round by round."""
+
+from underwraps.rules import Rules
+
+
+class Growth:
+    """All that each closed machine has that has some facts."""
+
+    def __init__(self, book, given, facts):
+        self.rules = Rules(book, given)
+        # Both by fact, as they came: the round in which it came, 0 if it was there; why it came then.
+        self.ranks = {fact: 0 for fact in facts}
+        self.grounds = {}
+        rank, made = 0, self.rules.wanted(facts)
+        while made:
+            rank += 1
+            fresh = self.take(made, rank)
+            made = [ground for fact in fresh for ground in self.rules.made_of(fact, self.ranks)]
+
+    def take(self, made, rank):
+        """Have all that is made now; return the facts that were not there."""
+        fresh = []
+        for ground in made:
+            if ground.says not in self.ranks:
+                self.ranks[ground.says] = rank
+                self.grounds[ground.says] = ground
+                fresh.append(ground.says)
+        return fresh
+
+
+def pairs_called(word, facts):
+    """Return the ascending list of the pairs of states of the facts that begin with a word, each once."""
+    return sorted(set([fact[1:] for fact in facts if fact[0] == word]))

@@ -1,0 +1,96 @@
+"""Paths: where moves and ties lead from states."""
+
+from underwraps.states import moves_of
+
+
+def by_first(pairs):
+    """Return a dict from what stands first in pairs to the list of what stands second there."""
+    found = {}
+    for first, second in pairs:
+        found.setdefault(first, []).append(second)
+    return found
+
+
+def over_ties(overs, states):
+    """Return, ascending, the states to which ties, by where they begin, lead from some, these with them."""
+    found = {}
+    todo = list(states)
+    while todo:
+        state = todo.pop()
+        if state not in found:
+            found[state] = True
+            todo.extend(overs.get(state, []))
+    return tuple(sorted(found))
+
+
+class Paths:
+    """The moves of a book, and ties, by where they begin."""
+
+    def __init__(self, book, ties):
+        self.labels = book.all_labels()
+        self.goes = by_first([((state, label), later) for state, label, later in moves_of(book)])
+        self.overs = by_first(ties)
+
+    def over(self, states):
+        """Return, ascending, the states to which ties lead from some, these with them."""
+        return over_ties(self.overs, states)
+
+    def by(self, states, label):
+        """Return, ascending, the states to which moves by a label, and ties, lead from some."""
+        return self.over([later for state in states for later in self.goes.get((state, label), [])])
+
+    def led(self, states, word):
+        """Return, ascending, the states to which ties lead a key with these first states and a word."""
+        found = self.over(states)
+        for label in word:
+            found = self.by(found, label)
+        return found
+
+    def moved_pairs(self, pair, label):
+        """Return the pairs to which moves by one label lead both states of a pair."""
+        first, second = pair
+        return [
+            (one, other)
+            for one in self.goes.get((first, label), [])
+            for other in self.goes.get((second, label), [])
+        ]
+
+    def tied_pairs(self, pair):
+        """Return the pairs to which a tie leads one state of a pair."""
+        first, second = pair
+        return (
+            [(later, second) for later in self.overs.get(first, [])]
+            + [(first, later) for later in self.overs.get(second, [])]
+        )
+
+    def after(self, place, word):
+        """Return the places to which one move or one tie leads from a place.
+
+        A place is a pair: how many labels of the word are gone, and the state.
+        """
+        gone, state = place
+        further = [(gone, later) for later in self.overs.get(state, [])]
+        if gone < len(word):
+            further += [(gone + 1, later) for later in self.goes.get((state, word[gone]), [])]
+        return further
+
+
+def shortest_path(paths, firsts, word, state):
+    """Return the fewest places from a first state to a state, all of the word gone; None if none lead there."""
+    goal = (len(word), state)
+    ahead = {(0, first): None for first in firsts}
+    level = list(ahead)
+    while level and goal not in ahead:
+        further = []
+        for place in level:
+            for later in paths.after(place, word):
+                if later not in ahead:
+                    ahead[later] = place
+                    further.append(later)
+        level = further
+    if goal not in ahead:
+        return None
+    path = [goal]
+    while ahead[path[-1]] is not None:
+        path.append(ahead[path[-1]])
+    return path[::-1]
