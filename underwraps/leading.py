@@ -1,9 +1,15 @@
 """Where ties lead asked keys, and to which two states at once."""
 
 from underwraps.books import need_book, start_rows
-from underwraps.paths import Paths
-from underwraps.states import all_roots, need_asked, root_states
+from underwraps.paths import Paths, all_reached
+from underwraps.states import all_roots, need_asked, root_states, states_of
 from underwraps.ties import need_ties
+
+
+def states_led(paths, given, asked):
+    """Return, ascending, the states to which paths lead an asked key."""
+    root, word = asked
+    return paths.led(root_states(given, root), word)
 
 
 def leads_to(book, start, ties, asked):
@@ -11,8 +17,7 @@ def leads_to(book, start, ties, asked):
     need_book(book)
     given = start_rows(book, start)
     paths = Paths(book, need_ties(book, ties))
-    root, word = need_asked(book, given, asked)
-    return list(paths.led(root_states(given, root), word))
+    return list(states_led(paths, given, need_asked(book, given, asked)))
 
 
 def first_pairs(given, root):
@@ -26,13 +31,6 @@ def pairs_of(book, start, ties):
     need_book(book)
     given = start_rows(book, start)
     paths = Paths(book, need_ties(book, ties))
-    found = {}
-    todo = [pair for root in all_roots(book, given) for pair in first_pairs(given, root)]
-    while todo:
-        pair = todo.pop()
-        if pair not in found:
-            found[pair] = True
-            todo.extend(paths.tied_pairs(pair))
-            for label in paths.labels:
-                todo.extend(paths.moved_pairs(pair, label))
-    return sorted(found)
+    states = states_of(book)
+    later = {(first, second): paths.pairs_after((first, second)) for first in states for second in states}
+    return list(all_reached(later, [pair for root in all_roots(book, given) for pair in first_pairs(given, root)]))

@@ -11,15 +11,18 @@ def by_first(pairs):
     return found
 
 
-def over_ties(overs, states):
-    """Return, ascending, the states to which ties, by where they begin, lead from some, these with them."""
+def all_reached(later, begun):
+    """Return, ascending, what is reached from some things, these with them.
+
+    later is a dict from a thing to what is reached from it at once.
+    """
     found = {}
-    todo = list(states)
+    todo = list(begun)
     while todo:
-        state = todo.pop()
-        if state not in found:
-            found[state] = True
-            todo.extend(overs.get(state, []))
+        thing = todo.pop()
+        if thing not in found:
+            found[thing] = True
+            todo.extend(later.get(thing, []))
     return tuple(sorted(found))
 
 
@@ -33,7 +36,7 @@ class Paths:
 
     def over(self, states):
         """Return, ascending, the states to which ties lead from some, these with them."""
-        return over_ties(self.overs, states)
+        return all_reached(self.overs, states)
 
     def by(self, states, label):
         """Return, ascending, the states to which moves by a label, and ties, lead from some."""
@@ -48,20 +51,17 @@ class Paths:
 
     def moved_pairs(self, pair, label):
         """Return the pairs to which moves by one label lead both states of a pair."""
-        first, second = pair
         return [
-            (one, other)
-            for one in self.goes.get((first, label), [])
-            for other in self.goes.get((second, label), [])
+            (first, second)
+            for first in self.goes.get((pair[0], label), [])
+            for second in self.goes.get((pair[1], label), [])
         ]
 
-    def tied_pairs(self, pair):
-        """Return the pairs to which a tie leads one state of a pair."""
-        first, second = pair
-        return (
-            [(later, second) for later in self.overs.get(first, [])]
-            + [(first, later) for later in self.overs.get(second, [])]
-        )
+    def pairs_after(self, pair):
+        """Return the pairs to which moves by one label, or one tie, lead from a pair."""
+        moved = [later for label in self.labels for later in self.moved_pairs(pair, label)]
+        firsts = [(first, pair[1]) for first in self.overs.get(pair[0], [])]
+        return moved + firsts + [(pair[0], second) for second in self.overs.get(pair[1], [])]
 
     def after(self, place, word):
         """Return the places to which one move or one tie leads from a place.

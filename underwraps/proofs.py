@@ -4,7 +4,7 @@ from underwraps.books import need_book, start_rows
 from underwraps.errors import BadIndex, BadRows
 from underwraps.forms import first_word, is_list, is_number
 from underwraps.growth import Growth, pairs_called
-from underwraps.paths import Paths, shortest_path
+from underwraps.paths import Paths, all_reached, shortest_path
 from underwraps.proofrows import facts_said, said_at
 from underwraps.states import is_move, is_state, need_asked, need_state, root_states
 
@@ -86,13 +86,7 @@ def row_says(book, start, rows, index):
 
 def facts_under(grounds, goals):
     """Return the facts of which some come, these with them, each behind those of which it is made."""
-    needed = {}
-    todo = list(goals)
-    while todo:
-        fact = todo.pop()
-        if fact not in needed:
-            needed[fact] = True
-            todo.extend(grounds[fact].needs)
+    needed = all_reached({fact: grounds[fact].needs for fact in grounds}, goals)
     return [fact for fact in grounds if fact in needed]
 
 

@@ -3,9 +3,10 @@
 from underwraps.books import need_book, start_rows
 from underwraps.forms import is_list, is_number
 from underwraps.growth import Growth, pairs_called
+from underwraps.leading import states_led
 from underwraps.paths import Paths
 from underwraps.rules import Rules
-from underwraps.states import need_asked, need_state, root_states
+from underwraps.states import need_asked, need_state
 from underwraps.ties import read_pair
 
 
@@ -67,11 +68,11 @@ def asked_rank(book, start, asked, state):
     """Return the least rank such that ties of no greater one lead an asked key to a state, None if none do."""
     need_book(book)
     given = start_rows(book, start)
-    root, word = need_asked(book, given, asked)
+    found = need_asked(book, given, asked)
     need_state(book, state)
     ranks = ranks_called("tie", Growth(book, given, {}).ranks)
     for rank in [0] + sorted(set(list(ranks.values()))):
         paths = Paths(book, [tie for tie in ranks if ranks[tie] <= rank])
-        if state in paths.led(root_states(given, root), word):
+        if state in states_led(paths, given, found):
             return rank
     return None

@@ -3,8 +3,8 @@
 from underwraps.books import need_book, start_rows
 from underwraps.errors import BadHouse
 from underwraps.houses import House
+from underwraps.leading import states_led
 from underwraps.paths import Paths
-from underwraps.states import root_states
 from underwraps.ties import need_ties
 
 
@@ -16,21 +16,21 @@ def need_house(book, given, house):
         raise BadHouse(house)
 
 
-def base_roots(handles):
-    """Return a dict from each given and made base of the keys of handles to its root."""
-    roots = {}
-    for (base, word), role in handles:
-        # A base's first handle has the role with which it was made: nothing is led anywhere ahead of it.
-        if base[0] != "own" and base not in roots:
-            roots[base] = base[1] if base[0] == "given" else role
-    return roots
+def first_roles(handles):
+    """Return a dict from each base of the keys of handles to the role of its first one."""
+    roles = {}
+    for (base, _), role in handles:
+        roles.setdefault(base, role)
+    return roles
 
 
-def states_led(paths, given, roots, key):
-    """Return the states to which ties lead the asked key of which a key of a house is one."""
+def asked_of(roles, key):
+    """Return the asked key of which a key is one, its base's first handle having such a role."""
     base, word = key
-    root = "known" if base[0] == "own" else roots[base]
-    return paths.led(root_states(given, root), word)
+    if base[0] == "given":
+        return (base[1], word)
+    # The first handle of a key that was made is the one by which it was made.
+    return ("known" if base[0] == "own" else roles[base], word)
 
 
 def strays(book, start, ties, house):
@@ -40,11 +40,11 @@ def strays(book, start, ties, house):
     paths = Paths(book, need_ties(book, ties))
     need_house(book, given, house)
     handles = house.handles()
-    roots = base_roots(handles)
+    roles = first_roles(handles)
     numbers = [
         number
         for number, (key, role) in enumerate(handles)
-        if role not in states_led(paths, given, roots, key)
+        if role not in states_led(paths, given, asked_of(roles, key))
     ]
-    known = [key for key in house.known_keys() if "known" not in states_led(paths, given, roots, key)]
-    return (numbers, known)
+    keys = [key for key in house.known_keys() if "known" not in states_led(paths, given, asked_of(roles, key))]
+    return (numbers, keys)

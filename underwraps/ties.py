@@ -3,7 +3,7 @@
 from underwraps.books import need_book
 from underwraps.errors import BadTies
 from underwraps.forms import first_wrong, is_list
-from underwraps.paths import by_first, over_ties
+from underwraps.paths import all_reached, by_first
 from underwraps.states import is_state, states_of
 
 
@@ -38,7 +38,7 @@ def ties_closed(book, ties):
     return [
         (state, later)
         for state in states_of(book)
-        for later in over_ties(overs, [state])
+        for later in all_reached(overs, [state])
         if later != state
     ]
 
@@ -49,6 +49,6 @@ def ties_thinned(book, ties):
     left = sorted(need_ties(book, ties))
     for tie in list(left):
         others = [other for other in left if other != tie]
-        if tie[1] in over_ties(by_first(others), [tie[0]]):
+        if tie[1] in all_reached(by_first(others), [tie[0]]):
             left = others
     return left
