@@ -19,6 +19,12 @@ def some_book(dice, roles, labels, share):
     return Book(roles, labels, permits)
 
 
+def some_wraps(dice, roles, labels, share):
+    """Return a book likewise, by which keys are led by keys alone: not copied, shown, brought."""
+    every = [permit for permit in all_permits(roles, labels) if permit[0] not in ("copy", "show", "bring")]
+    return Book(roles, labels, [permit for permit in every if dice.number(share) == 0])
+
+
 def some_start(dice, roles, many):
     """Return a start of at most many given keys."""
     return [sorted(dice.part(roles)) for _ in range(dice.number(many + 1))]

@@ -45,6 +45,23 @@ FUNCTIONS = {
         "proof_fault": "book start asked state thing", "is_proof": "book start asked state thing",
         "row_says": "book start rows index", "told_proof": "book start asked state",
     },
+    "verdicts": {
+        "is_bringing": "book start asked state thing", "is_never": "book start asked state thing",
+        "verdict": "book start asked state", "judged": "book start asked state thing",
+    },
+    "settling": {"settled": "book start questions", "reach": "book start asked", "brought_along": "book start"},
+    "prooflogs": {"log_of_proof": "book start asked state proof", "telling_log": "book start asked"},
+    "leanlogs": {"is_lean": "book start thing", "led_over": "book start log"},
+    "ledlogs": {"led_by": "book start first log table"},
+    "tables": {
+        "is_table": "book thing", "table_row": "book table word", "least_table": "book start root",
+        "road_to": "book table row", "parting_word": "book table row mate",
+    },
+    "outwords": {
+        "first_words": "book start root many", "count_out": "book start root many", "count_first": "book start root many",
+        "all_first": "book start root", "kind_of": "book start asked", "shortest_out": "book start asked",
+        "parted_behind": "book start asked mate",
+    },
     "ranks": {"machine_ranks": "book start", "ranks_fault": "book start thing", "asked_rank": "book start asked state"},
 }
 CLASSES = {

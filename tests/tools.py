@@ -89,6 +89,8 @@ def as_lists(thing):
     """Return a thing with each tuple in it a list."""
     if isinstance(thing, (list, tuple)):
         return [as_lists(part) for part in thing]
+    if isinstance(thing, dict):
+        return {key: as_lists(part) for key, part in thing.items()}
     return thing
 
 
@@ -96,6 +98,8 @@ def as_tuples(thing):
     """Return a thing with each list in it a tuple."""
     if isinstance(thing, (list, tuple)):
         return tuple([as_tuples(part) for part in thing])
+    if isinstance(thing, dict):
+        return {key: as_tuples(part) for key, part in thing.items()}
     return thing
 
 

@@ -4,27 +4,14 @@ from underwraps.books import need_book, start_rows
 from underwraps.errors import BadStates
 from underwraps.forms import is_list
 from underwraps.paths import Paths
+from underwraps.searches import first_word_to, reached_from
 from underwraps.states import all_roots, is_state, root_states
 from underwraps.ties import need_ties
 
 
-def bunch_words(paths, states):
-    """Return a dict from each bunch of a key with these first states to the first word that leads to it.
-
-    Words that are shorter are ahead, those of one length ascend.
-    """
-    level = [paths.over(states)]
-    words = {level[0]: ()}
-    while level:
-        further = []
-        for bunch in level:
-            for label in paths.labels:
-                later = paths.by(bunch, label)
-                if later not in words:
-                    words[later] = words[bunch] + (label,)
-                    further.append(later)
-        level = further
-    return words
+def all_bunches(paths, states):
+    """Return all bunches of a key with these first states, as a search tells them."""
+    return reached_from(paths.over(states), paths.labels, paths.by)
 
 
 def bunches_of(book, start, ties):
@@ -35,17 +22,17 @@ def bunches_of(book, start, ties):
     bunches = [
         bunch
         for root in all_roots(book, given)
-        for bunch in bunch_words(paths, root_states(given, root))
+        for bunch in all_bunches(paths, root_states(given, root))
     ]
     return [list(bunch) for bunch in sorted(set(bunches))]
 
 
 def word_to(paths, firsts, states):
     """Return the first word by which a key with these first states leads to all of some, None if none does."""
-    words = bunch_words(paths, firsts)
-    for bunch in words:
+    ahead = all_bunches(paths, firsts)
+    for bunch in ahead:
         if all([state in bunch for state in states]):
-            return words[bunch]
+            return first_word_to(ahead, bunch)
     return None
 
 

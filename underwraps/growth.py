@@ -1,5 +1,6 @@
 """Growth: facts, and all that they want, round by round."""
 
+from underwraps.paths import Paths, all_reached
 from underwraps.rules import Rules
 
 
@@ -7,6 +8,7 @@ class Growth:
     """All that each closed machine has that has some facts."""
 
     def __init__(self, book, given, facts):
+        self.book = book
         self.rules = Rules(book, given)
         # Both by fact, as they came: the round in which it came, 0 if it was there; why it came then.
         self.ranks = {fact: 0 for fact in facts}
@@ -27,7 +29,22 @@ class Growth:
                 fresh.append(ground.says)
         return fresh
 
+    def tied_paths(self):
+        """Return the paths of all moves, and of the ties that are there."""
+        return Paths(self.book, pairs_called("tie", self.ranks))
+
 
 def pairs_called(word, facts):
     """Return the ascending list of the pairs of states of the facts that begin with a word, each once."""
     return sorted(set([fact[1:] for fact in facts if fact[0] == word]))
+
+
+def facts_under(grounds, goals):
+    """Return the facts of which some come, these with them, each behind those of which it is made."""
+    needed = all_reached({fact: grounds[fact].needs for fact in grounds}, goals)
+    return [fact for fact in grounds if fact in needed]
+
+
+def least_paths(book, given):
+    """Return the paths of all moves, and of the least machine's ties."""
+    return Growth(book, given, {}).tied_paths()

@@ -61,11 +61,11 @@ def thinned_log(book, start, log, key):
     if not play.house.is_known((found,)):
         raise Untold(key)
     for index in reversed(range(len(play.deeds))):
-        left, makes = play_without(play, index)
+        left, bases = play_without(play, index)
         if left is None:
             continue
         # The key is not gone with this call: some later one names whatever makes a key that is told.
-        led = led_key(found, makes)
+        led = led_key(found, bases)
         if left.house.is_known((led,)):
             play, found = left, led
     return (log_of(play), found)

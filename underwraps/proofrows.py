@@ -2,7 +2,7 @@
 
 from underwraps.books import read_permit
 from underwraps.forms import first_word, is_number
-from underwraps.rules import let_tie
+from underwraps.rules import Ground, let_tie
 from underwraps.states import is_move, is_root, is_state, root_states
 
 # What stands behind the word of a row; "pair" and "tie" are indexes of rows ahead that say one.
@@ -96,3 +96,15 @@ def facts_said(book, given, rows):
             return said
         said.append(fact)
     return said
+
+
+def grounds_said(said, rows):
+    """Return a dict from each fact that right rows say to its ground, by the first row that says it."""
+    grounds = {}
+    for fact, row in zip(said, rows):
+        if fact not in grounds:
+            parts = list(zip(ROWS[row[0]], row[1:]))
+            needs = tuple([said[part] for kind, part in parts if kind in ("pair", "tie")])
+            tail = tuple([part for kind, part in parts if kind not in ("pair", "tie")])
+            grounds[fact] = Ground(fact, row[0], needs, tail)
+    return grounds

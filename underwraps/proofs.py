@@ -3,8 +3,8 @@
 from underwraps.books import need_book, start_rows
 from underwraps.errors import BadIndex, BadRows
 from underwraps.forms import first_word, is_list, is_number
-from underwraps.growth import Growth, pairs_called
-from underwraps.paths import Paths, all_reached, shortest_path
+from underwraps.growth import Growth, facts_under
+from underwraps.paths import shortest_path
 from underwraps.proofrows import facts_said, said_at
 from underwraps.states import is_move, is_state, need_asked, need_state, root_states
 
@@ -84,12 +84,6 @@ def row_says(book, start, rows, index):
     return said[index]
 
 
-def facts_under(grounds, goals):
-    """Return the facts of which some come, these with them, each behind those of which it is made."""
-    needed = all_reached({fact: grounds[fact].needs for fact in grounds}, goals)
-    return [fact for fact in grounds if fact in needed]
-
-
 def row_of(ground, places):
     """Return the row of a ground, the rows of what it needs having these places."""
     return (ground.word,) + tuple([places[need] for need in ground.needs]) + ground.tail
@@ -101,14 +95,13 @@ def told_proof(book, start, asked, state):
     given = start_rows(book, start)
     root, word = need_asked(book, given, asked)
     need_state(book, state)
-    grounds = Growth(book, given, {}).grounds
-    paths = Paths(book, pairs_called("tie", grounds))
-    path = shortest_path(paths, root_states(given, root), word, state)
+    growth = Growth(book, given, {})
+    path = shortest_path(growth.tied_paths(), root_states(given, root), word, state)
     if path is None:
         return None
     # Where two places have as many labels gone a tie leads from one to the other.
     ties = [("tie", at[1], to[1]) if at[0] == to[0] else None for at, to in zip(path, path[1:])]
-    facts = facts_under(grounds, [tie for tie in ties if tie is not None])
+    facts = facts_under(growth.grounds, [tie for tie in ties if tie is not None])
     places = {fact: index for index, fact in enumerate(facts)}
     steps = [("go", to[1]) if tie is None else ("over", places[tie]) for tie, to in zip(ties, path[1:])]
-    return ([row_of(grounds[fact], places) for fact in facts], path[0][1], steps)
+    return ([row_of(growth.grounds[fact], places) for fact in facts], path[0][1], steps)

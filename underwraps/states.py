@@ -60,12 +60,17 @@ def root_states(given, root):
     return given[root] if is_number(root) else (root,)
 
 
+def need_root(book, given, root):
+    """Raise BadRoot for what is no root."""
+    if not is_root(book, given, root):
+        raise BadRoot(root)
+
+
 def first_states(book, start, root):
     """Return the ascending list of the first states of a root."""
     need_book(book)
     given = start_rows(book, start)
-    if not is_root(book, given, root):
-        raise BadRoot(root)
+    need_root(book, given, root)
     return list(root_states(given, root))
 
 

@@ -4,6 +4,7 @@ from underwraps.books import need_book, start_rows
 from underwraps.errors import BadHouse
 from underwraps.houses import House
 from underwraps.leading import states_led
+from underwraps.origins import asked_of, first_roles
 from underwraps.paths import Paths
 from underwraps.ties import need_ties
 
@@ -14,23 +15,6 @@ def need_house(book, given, house):
         raise BadHouse(house)
     if [tuple(row) for row in house.start()] != list(given):
         raise BadHouse(house)
-
-
-def first_roles(handles):
-    """Return a dict from each base of the keys of handles to the role of its first one."""
-    roles = {}
-    for (base, _), role in handles:
-        roles.setdefault(base, role)
-    return roles
-
-
-def asked_of(roles, key):
-    """Return the asked key of which a key is one, its base's first handle having such a role."""
-    base, word = key
-    if base[0] == "given":
-        return (base[1], word)
-    # The first handle of a key that was made is the one by which it was made.
-    return ("known" if base[0] == "own" else roles[base], word)
 
 
 def strays(book, start, ties, house):
