@@ -4,6 +4,7 @@ from tests.tools import Hostile, Odd, as_lists, as_tuples, empties, odd_things, 
 from underwraps.books import Book
 from underwraps.errors import BadAsked, BadBook, BadRoot, BadStart, BadState
 from underwraps.houses import House
+from underwraps.several import Houses
 
 BOOK = Book(["a", "b", "c"], ["x", "y"], [
     ("make", "b"), ("copy", "a", "b"), ("derive", "a", "x", "c"), ("derive", "b", "y", "a"), ("wrap", "b", "c"),
@@ -48,7 +49,16 @@ def held_lists(thing):
     """Return all lists and dicts in a thing."""
     parts = list(thing.values()) if isinstance(thing, dict) else thing if isinstance(thing, (list, tuple)) else []
     inner = [found for part in parts for found in held_lists(part)]
-    return ([] if isinstance(thing, (tuple, int, str, type(None))) else [thing]) + inner
+    return ([] if isinstance(thing, (tuple, int, str, type(None), Book, House, Houses)) else [thing]) + inner
+
+
+def shown(thing):
+    """Return what tells, by its repr, of which kinds a thing and all in it are, books by what they tell."""
+    if isinstance(thing, Book):
+        return ("Book", thing.all_roles(), thing.all_labels(), thing.all_permits())
+    if isinstance(thing, dict):
+        return {key: shown(part) for key, part in thing.items()}
+    return type(thing)([shown(part) for part in thing]) if isinstance(thing, (list, tuple)) else thing
 
 
 def copied(thing):
@@ -112,7 +122,8 @@ class Each:
                 changed = {name: other(thing) for name, thing in named.items()}
                 self.assertEqual(function(**changed), told)
                 self.assertEqual(function(*list(changed.values())), told)
-                self.assertEqual(repr(function(**changed)), repr(told))
+                if not isinstance(told, Houses):
+                    self.assertEqual(repr(shown(function(**changed))), repr(shown(told)))
 
     def test_told_new(self):
         for function in self.PARAMETERS:

@@ -1,5 +1,6 @@
 """Books, starts and logs that come of a fixed count."""
 
+from tests.tools import Dice
 from underwraps.books import Book
 from underwraps.errors import WrapError
 from underwraps.houses import House
@@ -85,3 +86,16 @@ def some_case(dice, many):
     book = some_book(dice, roles, labels, 2 + dice.number(2))
     start = some_start(dice, roles, 2)
     return book, start, some_log(dice, book, start, many)
+
+
+def some_small(count):
+    """Return (dice, book, start) of at most three roles and two labels."""
+    dice = Dice(count)
+    roles, labels = ["a", "b", "c"][:dice.number(4)], ["x", "y"][:dice.number(3)]
+    kind = dice.number(4)
+    if kind > 1:
+        # Words lead on, mostly from one role to one other, and one role alone may come out.
+        roles, labels = ["a", "b", "c"], ["x", "y"][:1 + dice.number(2)]
+        permits = {("derive", dice.one(roles), label, dice.one(roles)) for label in labels * 3} | {("show", "b"), ("make", "a")}
+        return dice, Book(roles, labels, sorted(permits)), some_start(dice, roles, 2)
+    return dice, [some_book, some_wraps][kind](dice, roles, labels, 2 + dice.number(3)), some_start(dice, roles, 2)

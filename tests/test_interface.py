@@ -62,6 +62,26 @@ FUNCTIONS = {
         "all_first": "book start root", "kind_of": "book start asked", "shortest_out": "book start asked",
         "parted_behind": "book start asked mate",
     },
+    "groups": {
+        "groups": "book start root", "group_table": "book start", "group_fault": "book start thing",
+        "keeps_apart": "book start root states thing",
+    },
+    "togethers": {"together": "book start root states", "wrapping": "book start role"},
+    "tiers": {
+        "tiers_fault": "book start thing", "is_tiering": "book start thing", "finest_tiering": "book start", "safe_roles": "book start",
+    },
+    "levels": {
+        "is_levels": "book start thing", "least_levels": "book start", "is_bar": "book start thing", "shortest_bar": "book start",
+    },
+    "several": {"houses_fault": "books starts thing"},
+    "joining": {"joined": "books starts", "joined_log": "books starts log", "parted_log": "books starts log"},
+    "sharing": {"apart": "books starts some", "sharings": "books starts house asked"},
+    "lots": {
+        "is_idle": "book start permit", "idle_permits": "book start", "thinned_book": "book start", "is_kept": "book start secrets",
+        "telling_lots": "book start secrets", "keeping_lots": "book start secrets", "is_telling_lot": "book start secrets thing",
+        "is_keeping_lot": "book start secrets thing", "least_meeting": "book lots", "lots_fault": "book start secrets thing",
+        "guards": "book start secrets",
+    },
     "ranks": {"machine_ranks": "book start", "ranks_fault": "book start thing", "asked_rank": "book start asked state"},
 }
 CLASSES = {
@@ -72,6 +92,10 @@ CLASSES = {
     "houses": ("House", {
         "__init__": "self book start", "handles": "self", "out": "self", "book": "self", "start": "self",
         "copy": "self", "call": "self call", "__eq__": "self other",
+    }),
+    "several": ("Houses", {
+        "__init__": "self books starts", "call": "self house call", "handles": "self house", "out": "self", "copy": "self",
+        "__eq__": "self other",
     }),
 }
 PACKAGE = pathlib.Path(underwraps.__file__).parent

@@ -1,10 +1,8 @@
 """12.1, 12.4 to 12.7: first words, counts, out, near and safe, alike behind."""
 
-from tests.plainrules import all_asked, all_words, plain_roots
+from tests.plainrules import all_asked, all_words, plain_leads, plain_roots
 from tests.plainwords import plain_least
-from tests.plainrules import plain_leads
-from tests.samples import all_permits
-from tests.test_tables import some_case
+from tests.samples import all_permits, some_small
 from tests.tools import Dice, WrapCase
 from underwraps.books import Book
 from underwraps.outwords import all_first, count_first, count_out, first_words, kind_of, parted_behind, shortest_out
@@ -41,7 +39,7 @@ class TestFirstWords(WrapCase):
     def test_all_words_gone_through(self):
         some = {True: 0, False: 0}
         for count in range(150):
-            _, book, start = some_case(count)
+            _, book, start = some_small(count)
             for root in plain_roots(book, start):
                 out = self.words_out(book, start, root, 4)
                 firsts = [word for word in out if not any([word[:many] in out for many in range(len(word))])]
@@ -62,7 +60,7 @@ class TestFirstWords(WrapCase):
     def test_counts(self):
         ends = {True: 0, False: 0}
         for count in range(150):
-            _, book, start = some_case(count + 500)
+            _, book, start = some_small(count + 500)
             labels = book.all_labels()
             for root in plain_roots(book, start):
                 out = self.words_out(book, start, root, 4)
@@ -130,7 +128,7 @@ class TestKinds(WrapCase):
     def test_all_words_gone_through(self):
         kinds = {"out": 0, "near": 0, "safe": 0}
         for count in range(120):
-            _, book, start = some_case(count)
+            _, book, start = some_small(count)
             ties, _ = plain_least(book, start)
             for asked in all_asked(book, start, 2):
                 out = [word for word in all_words(book.all_labels(), 6 if len(book.all_labels()) < 2 else 4) if "known" in plain_leads(
@@ -162,7 +160,7 @@ class TestPartedBehind(WrapCase):
     def test_all_words_gone_through(self):
         some = {True: 0, False: 0}
         for count in range(70):
-            dice, book, start = some_case(count)
+            dice, book, start = some_small(count)
             ties, _ = plain_least(book, start)
             every = all_asked(book, start, 2)
             for asked, mate in [(dice.one(every), dice.one(every)) for _ in range(25)]:
@@ -180,7 +178,7 @@ class TestPartedBehind(WrapCase):
 
     def test_as_many_as_rows(self):
         for count in range(60):
-            _, book, start = some_case(count)
+            _, book, start = some_small(count)
             for root in plain_roots(book, start):
                 table, unlike = least_table(book, start, root), []
                 for word in all_words(book.all_labels(), 4):

@@ -2,7 +2,7 @@
 
 from tests.plainrules import all_words, plain_roots
 from tests.plainwords import joined_table, parted_lots, plain_least, plain_reach, plain_rows
-from tests.samples import some_book, some_start, some_wraps
+from tests.samples import some_small
 from tests.tools import Dice, Hostile, Odd, WrapCase, as_lists, as_tuples, empties, odd_things
 from underwraps.books import Book
 from underwraps.tables import is_table, least_table, parting_word, road_to, table_row
@@ -12,19 +12,6 @@ START = [["a"]]
 LEAST = [(False, (1, 0)), (False, (2, 3)), (False, (2, 2)), (True, (3, 3))]
 BARE = Book([], [], [])
 ONE = Book([], ["x"], [])
-
-
-def some_case(count):
-    """Return (dice, book, start) of at most three roles and two labels."""
-    dice = Dice(count)
-    roles, labels = ["a", "b", "c"][:dice.number(4)], ["x", "y"][:dice.number(3)]
-    kind = dice.number(4)
-    if kind > 1:
-        # Words lead on, mostly from one role to one other, and one role alone may come out.
-        roles, labels = ["a", "b", "c"], ["x", "y"][:1 + dice.number(2)]
-        permits = {("derive", dice.one(roles), label, dice.one(roles)) for label in labels * 3} | {("show", "b"), ("make", "a")}
-        return dice, Book(roles, labels, sorted(permits)), some_start(dice, roles, 2)
-    return dice, [some_book, some_wraps][kind](dice, roles, labels, 2 + dice.number(3)), some_start(dice, roles, 2)
 
 
 def some_table(dice, labels):
@@ -84,7 +71,7 @@ class TestLeastTable(WrapCase):
     def test_rows_joined_that_no_word_parts(self):
         sizes = {}
         for count in range(170):
-            _, book, start = some_case(count)
+            _, book, start = some_small(count)
             for root in plain_roots(book, start):
                 table = least_table(book, start, root)
                 rows, first = plain_rows(book, start, root)
@@ -183,7 +170,7 @@ class TestParting(WrapCase):
 
     def test_fewest_rows_exactly_if_roads_and_parting_words(self):
         for count in range(120):
-            dice, book, start = some_case(count)
+            dice, book, start = some_small(count)
             for root in plain_roots(book, start):
                 least = least_table(book, start, root)
                 # Rows told twice, and mixed, but for the first one: right still, and not the fewest.

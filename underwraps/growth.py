@@ -1,7 +1,9 @@
 """Growth: facts, and all that they want, round by round."""
 
+from underwraps.leading import states_led
 from underwraps.paths import Paths, all_reached
 from underwraps.rules import Rules
+from underwraps.states import is_root
 
 
 class Growth:
@@ -48,3 +50,15 @@ def facts_under(grounds, goals):
 def least_paths(book, given):
     """Return the paths of all moves, and of the least machine's ties."""
     return Growth(book, given, {}).tied_paths()
+
+
+def states_reached(book, given, asked):
+    """Return, ascending, the states to which an asked key can be brought."""
+    return states_led(least_paths(book, given), given, asked)
+
+
+def any_out(book, given, asked_keys):
+    """Tell whether one of some asked keys comes out; one of a role that cannot be made does not."""
+    paths = least_paths(book, given)
+    there = [asked for asked in asked_keys if is_root(book, given, asked[0])]
+    return any(["known" in states_led(paths, given, asked) for asked in there])

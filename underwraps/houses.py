@@ -3,8 +3,8 @@
 from underwraps.books import need_book, start_rows
 from underwraps.deeds import MAKERS, handle_by, nest_by, nest_fault, permit_for, read_call
 from underwraps.errors import BadCall, NoHandle, NoPermit, NotKey, NotKnown, NotUnder
-from underwraps.knowledge import Known
 from underwraps.nests import thing_of
+from underwraps.users import User
 
 
 class House:
@@ -16,9 +16,7 @@ class House:
         self._book = book
         self._rows = rows
         self._handles = [((("given", at), ()), role) for at, row in enumerate(rows) for role in row]
-        self._nests = []
-        self._made = 0
-        self._known = Known()
+        self._user = User()
 
     def handles(self):
         """Return the list of the handles, pairs of a key and a role."""
@@ -26,7 +24,7 @@ class House:
 
     def out(self):
         """Return the list of the things that have come out, in order."""
-        return [thing_of(nest) for nest in self._nests]
+        return [thing_of(nest) for nest in self._user.nests]
 
     def book(self):
         """Return the book that the house was made of."""
@@ -38,11 +36,13 @@ class House:
 
     def copy(self):
         """Return a house like this one, that goes on by itself."""
+        return self.used_by(self._user.copy())
+
+    def used_by(self, user):
+        """Return a house with the handles of this one, whose user is another one."""
         other = House(self._book, self._rows)
         other._handles = list(self._handles)
-        other._nests = list(self._nests)
-        other._made = self._made
-        other._known = self._known.copy()
+        other._user = user
         return other
 
     def call(self, call):
@@ -88,23 +88,22 @@ class House:
 
     def is_known(self, nest):
         """Tell whether a nest is known by what has come out."""
-        return self._known.has(nest)
+        return self._user.known.has(nest)
 
     def known_keys(self):
         """Return the ascending list of the keys that are known, no own ones and behind no known one."""
-        return self._known.least_keys()
+        return self._user.known.least_keys()
 
     def carry_out(self, deed):
         """Do a deed that is let; return the new handle's number, or the nest that comes out."""
         keys = self.keys_of(deed)
         if deed.word in MAKERS:
-            self._handles.append(handle_by(deed, keys, self._made))
+            self._handles.append(handle_by(deed, keys, self._user.made))
             if deed.word == "make":
-                self._made += 1
+                self._user.count_make()
             return len(self._handles) - 1
         nest = nest_by(deed, keys)
-        self._nests.append(nest)
-        self._known.take(nest)
+        self._user.take(nest)
         return nest
 
     def __eq__(self, other):
@@ -113,8 +112,8 @@ class House:
             and self._book == other._book
             and self._rows == other._rows
             and self._handles == other._handles
-            and self._nests == other._nests
-            and self._made == other._made
+            and self._user.nests == other._user.nests
+            and self._user.made == other._user.made
         )
 
 

@@ -128,9 +128,9 @@ class Leader:
         return (base, word)
 
 
-def log_along(given, grounds, asked, path):
-    """Return a log by which a key of an asked key is led along a path, and the key."""
+def led_along(given, grounds, found):
+    """Return a log by which a key of each asked key is led along a path, and the list of these keys."""
     leader = Leader(given, grounds)
-    leader.make_ready(ties_along(path))
-    key = leader.lead(asked, path)
-    return (leader.calls, key)
+    leader.make_ready([tie for _, path in found for tie in ties_along(path)])
+    keys = [leader.lead(asked, path) for asked, path in found]
+    return (leader.calls, keys)

@@ -3,7 +3,7 @@
 from underwraps.books import need_book, start_rows
 from underwraps.errors import BadProof
 from underwraps.growth import Growth
-from underwraps.leaders import log_along
+from underwraps.leaders import led_along
 from underwraps.logs import thinned_log
 from underwraps.paths import shortest_path
 from underwraps.proofrows import facts_said, grounds_said
@@ -27,7 +27,9 @@ def log_of_proof(book, start, asked, state, proof):
     given = start_rows(book, start)
     rows, first, steps = proof
     said = facts_said(book, given, rows)
-    return log_along(given, grounds_said(said, rows), need_asked(book, given, asked), path_of(said, first, steps))
+    found = (need_asked(book, given, asked), path_of(said, first, steps))
+    log, keys = led_along(given, grounds_said(said, rows), [found])
+    return (log, keys[0])
 
 
 def telling_log(book, start, asked):
@@ -39,5 +41,5 @@ def telling_log(book, start, asked):
     path = shortest_path(growth.tied_paths(), root_states(given, found[0]), found[1], "known")
     if path is None:
         return None
-    log, key = log_along(given, growth.grounds, found, path)
-    return thinned_log(book, given, log, key)
+    log, keys = led_along(given, growth.grounds, [(found, path)])
+    return thinned_log(book, given, log, keys[0])

@@ -3,9 +3,8 @@
 from underwraps.books import need_book, start_rows
 from underwraps.errors import BadQuestions
 from underwraps.forms import is_list
-from underwraps.growth import Growth, least_paths
-from underwraps.leaders import Leader, ties_along
-from underwraps.leading import states_led
+from underwraps.growth import Growth, states_reached
+from underwraps.leaders import led_along
 from underwraps.machines import machine_of
 from underwraps.paths import shortest_path
 from underwraps.states import is_state, need_asked, read_asked, root_states
@@ -40,17 +39,8 @@ def settled(book, start, questions):
         (asked, shortest_path(paths, root_states(given, asked[0]), asked[1], state))
         for asked, state in asked_states
     ]
-    led = [(asked, path) for asked, path in found if path is not None]
-    leader = Leader(given, growth.grounds)
-    leader.make_ready([tie for _, path in led for tie in ties_along(path)])
-    for asked, path in led:
-        leader.lead(asked, path)
-    return (leader.calls, machine_of(growth.ranks))
-
-
-def states_reached(book, given, asked):
-    """Return, ascending, the states to which an asked key can be brought."""
-    return states_led(least_paths(book, given), given, asked)
+    log, _ = led_along(given, growth.grounds, [(asked, path) for asked, path in found if path is not None])
+    return (log, machine_of(growth.ranks))
 
 
 def reach(book, start, asked):

@@ -22,6 +22,12 @@ def need_state(book, state):
         raise BadState(state)
 
 
+def is_state_dict(book, thing):
+    """Tell whether any object is a dict from just the states."""
+    states = states_of(book)
+    return isinstance(thing, dict) and len(thing) == len(states) and all([state in thing for state in states])
+
+
 def moves_of(book):
     """Return the ascending list of the moves, triples of a state, a label and a state."""
     need_book(book)

@@ -3,7 +3,7 @@
 from underwraps.books import need_book, start_rows
 from underwraps.forms import first_word
 from underwraps.growth import Growth, pairs_called
-from underwraps.leaders import log_along
+from underwraps.leaders import led_along
 from underwraps.leading import states_led
 from underwraps.machines import facts_of, first_lack, machine_of
 from underwraps.origins import asked_of, bases_of, first_roles
@@ -66,7 +66,7 @@ def verdict(book, start, asked, state):
     path = shortest_path(growth.tied_paths(), root_states(given, found[0]), found[1], state)
     if path is None:
         return ("never", machine_of(growth.ranks))
-    log, _ = log_along(given, growth.grounds, found, path)
+    log, _ = led_along(given, growth.grounds, [(found, path)])
     return ("told", log)
 
 

@@ -1,0 +1,19 @@
+"""Meetings: the least lots that have something in common with each of some."""
+
+
+def least_meetings(lots):
+    """Return, ascending, the lots that meet all of some lots, while no lesser part of them does."""
+    found = [()]
+    for lot in lots:
+        met = [some for some in found if any([permit in lot for permit in some])]
+        more = [
+            tuple(sorted(some + (permit,)))
+            for some in found
+            if some not in met
+            for permit in lot
+        ]
+        # Two that are made longer here have unlike parts: so only those that meet the lot anyway may be lesser ones.
+        found = met + [
+            some for some in more if not any([all([permit in some for permit in least]) for least in met])
+        ]
+    return sorted(found)
