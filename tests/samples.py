@@ -88,6 +88,14 @@ def some_case(dice, many):
     return book, start, some_log(dice, book, start, many)
 
 
+def some_led(count, most):
+    """Return (dice, book, start) of at most three roles and two labels, for odd counts such as some_wraps tells."""
+    dice = Dice(count)
+    roles, labels = ["a", "b", "c"][:dice.number(4)], ["x", "y"][:dice.number(3)]
+    book = [some_book, some_wraps][count % 2](dice, roles, labels, 2 + dice.number(most))
+    return dice, book, some_start(dice, roles, 2)
+
+
 def some_small(count):
     """Return (dice, book, start) of at most three roles and two labels."""
     dice = Dice(count)

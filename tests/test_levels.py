@@ -105,7 +105,12 @@ class TestBars(WrapCase):
         # A fall below 0 from "known" says nothing, nor does a round without a fall.
         self.says(False, is_bar(WIDE, start, [(("bring", "a"), "on"), (("unwrap", "b", "a"), "back")]))
         self.says(False, is_bar(WIDE, start, [(("given", 1, "a", "b"), "on"), (("copy", "a", "b"), "back")]))
-        self.says(True, is_bar(WIDE, start, [(("given", 1, "b", "a"), "on"), (("wrap", "a", "b"), "on")]))
+        for walk, right in [
+            ([(("given", 1, "b", "a"), "on"), (("wrap", "a", "b"), "on")], True), ([(("given", 0, "b", "a"), "on"), (("wrap", "a", "b"), "on")], False),
+            ([(("given", 1, "a", "b"), "on"), (("wrap", "a", "b"), "back")], True), ([(("given", 0, "a", "b"), "on"), (("wrap", "a", "b"), "back")], False),
+            ([(("given", 1, "a", "a"), "on"), (("wrap", "a", "a"), "on")], False), ([(("given", 2, "a", "b"), "on"), (("wrap", "a", "b"), "back")], False),
+        ]:
+            self.says(right, is_bar(WIDE, start, walk))
         self.says(True, is_bar(WIDE, start, [(("seal", "a"), "back"), (("bring", "a"), "back")]))
         self.says(True, is_bar(WIDE, start, [(("open", "b"), "on"), (("show", "b"), "back")]))
 
@@ -118,7 +123,7 @@ class TestBars(WrapCase):
             (("given", True, "a", "b"), "on"), (("given", "1", "a", "b"), "on"), (("given", 1, "a"), "on"), (("given", 1, "a", "known"), "on"),
             (("given", -1, "a", "b"), "on"), (("given", 1, "a", "b", "b"), "on"), (("given", 1, "a", Hostile()), "on"), ("wrap", "on"),
             (Hostile(), "on"), (("wrap", "a", "a"), Hostile()), ((Hostile(), "a", "a"), "on"), Hostile(), None, "on", ("on", ("wrap", "a", "a")),
-            (("wrap", "a", Hostile()), "on"), (("given", Hostile(), "a", "b"), "on"), (("given", 1, ["a"], "b"), "on"), {right: 0}, (None, "on"),
+            (("wrap", "a", Hostile()), "on"), (("given", Hostile(), "a", "b"), "on"), (("given", 1, Hostile(), "b"), "on"), (("given", 1, None, "b"), "on"), (("given", 1, ["a"], "b"), "on"), {right: 0}, (None, "on"),
             (("wrap", "a", "a"), "On"), (("wrap", "a", "a"), None), (("wrap", "a", "a"), b"on"), (("wrap", "a", "a"), ["on"]),
         ]
         for step in wrong:

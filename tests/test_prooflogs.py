@@ -3,7 +3,7 @@
 from tests.plain import led_log, plain_log
 from tests.plainrules import all_asked, plain_leads, plain_rows, plain_said, plain_states
 from tests.plainwords import keys_asked, plain_brings, plain_reach
-from tests.samples import all_permits, some_book, some_start, some_wraps
+from tests.samples import all_permits, some_book, some_led, some_start, some_wraps
 from tests.tools import Dice, Hostile, WrapCase, as_lists, as_tuples
 from underwraps.books import Book
 from underwraps.errors import BadProof
@@ -113,10 +113,7 @@ class TestOfProof(ProofCase):
     def test_told_proofs(self):
         longest = done = 0
         for count in range(110):
-            dice = Dice(count)
-            roles, labels = ["a", "b", "c"][:dice.number(4)], ["x", "y"][:dice.number(3)]
-            book = [some_book, some_wraps][count % 2](dice, roles, labels, 2 + dice.number(4))
-            start = some_start(dice, roles, 2)
+            _, book, start = some_led(count, 4)
             for asked in all_asked(book, start, 2):
                 for state in plain_states(book):
                     proof = told_proof(book, start, asked, state)
@@ -187,10 +184,7 @@ class TestTelling(WrapCase):
     def test_thinned(self):
         told, longest = {True: 0, False: 0}, 0
         for count in range(160):
-            dice = Dice(count)
-            roles, labels = ["a", "b", "c"][:dice.number(4)], ["x", "y"][:dice.number(3)]
-            book = [some_book, some_wraps][count % 2](dice, roles, labels, 2 + dice.number(5))
-            start = some_start(dice, roles, 2)
+            _, book, start = some_led(count, 5)
             for asked in all_asked(book, start, 2):
                 found = telling_log(book, start, asked)
                 comes = "known" in plain_reach(book, start, asked)

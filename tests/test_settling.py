@@ -2,7 +2,7 @@
 
 from tests.plainrules import all_asked, plain_leads, plain_states
 from tests.plainwords import plain_brings, plain_least, plain_reach
-from tests.samples import all_permits, some_book, some_case, some_start, some_wraps
+from tests.samples import all_permits, some_case, some_led, some_start, some_wraps
 from tests.tools import Dice, WrapCase, as_lists
 from underwraps.books import Book
 from underwraps.houses import House
@@ -41,10 +41,7 @@ class TestSettled(WrapCase):
     def test_just_one_of_both(self):
         kinds = {"told": 0, "never": 0, "all": 0, "none": 0}
         for count in range(140):
-            dice = Dice(count)
-            roles, labels = ["a", "b", "c"][:dice.number(4)], ["x", "y"][:dice.number(3)]
-            book = [some_book, some_wraps][count % 2](dice, roles, labels, 2 + dice.number(5))
-            start = some_start(dice, roles, 2)
+            dice, book, start = some_led(count, 5)
             ties, pairs = [sorted(some) for some in plain_least(book, start)]
             every = [(asked, state) for asked in all_asked(book, start, 2) for state in plain_states(book)]
             questions = dice.some(every, dice.number(9))

@@ -100,6 +100,8 @@ class TestSharings(WrapCase):
         relays = Book(["u", "k", "v"], [], [("unwrap", "u", "k"), ("wrap", "v", "k")])
         starts = [[["w"], []], [["u"], ["v"]], [[], ["o"]]]
         self.assertEqual(sharings([wraps, relays, opens], starts, 0, ("d", ())), [[0, 1]])
+        starts = [[["w"], ["w"], []], [["u"], [], ["v"]], [[], ["o"], ["o"]]]
+        self.assertEqual(sharings([wraps, relays, opens], starts, 0, ("d", ())), [[0, 2], [1]])
 
     def test_by_all_parts(self):
         sizes = {}

@@ -3,7 +3,7 @@
 from tests.plain import plain_log
 from tests.plainrules import all_asked, all_pairs, all_ties, plain_closed, plain_leads, plain_states
 from tests.plainwords import all_logs, plain_brings, plain_least, plain_reach
-from tests.samples import all_permits, some_book, some_case, some_log, some_start, some_wraps
+from tests.samples import all_permits, some_book, some_case, some_led, some_log, some_start
 from tests.tools import Dice, Hostile, WrapCase, as_lists, as_tuples, empties, odd_things
 from underwraps.books import Book
 from underwraps.logs import log_fault
@@ -160,10 +160,7 @@ class TestVerdict(WrapCase):
     def test_just_one(self):
         words, longest = {"told": 0, "never": 0}, 0
         for count in range(140):
-            dice = Dice(count)
-            roles, labels = ["a", "b", "c"][:dice.number(4)], ["x", "y"][:dice.number(3)]
-            book = [some_book, some_wraps][count % 2](dice, roles, labels, 2 + dice.number(5))
-            start = some_start(dice, roles, 2)
+            _, book, start = some_led(count, 5)
             ties, pairs = [sorted(some) for some in plain_least(book, start)]
             states = plain_states(book)
             for asked in all_asked(book, start, 2):
@@ -196,7 +193,7 @@ class TestVerdict(WrapCase):
             questions = [(asked, state) for asked in all_asked(book, start, 1) for state in plain_states(book)]
             reached = {asked: plain_reach(book, start, asked) for asked, _ in questions}
             met = set()
-            for log, house in all_logs(book, start, 3):
+            for log, _ in all_logs(book, start, 3):
                 logs += 1
                 self.assertIsNone(log_fault(book, start, log))
                 for asked, state in questions:

@@ -15,8 +15,10 @@ def housed(role, house):
 
 def housed_permit(permit, house):
     """Return a permit of a house as it is called in the book for all."""
-    pairs = zip(PERMITS[permit[0]], permit[1:])
-    return permit[:1] + tuple([housed(name, house) if kind == "role" else name for kind, name in pairs])
+    return permit[:1] + tuple([
+        housed(name, house) if kind == "role" else name
+        for kind, name in zip(PERMITS[permit[0]], permit[1:])
+    ])
 
 
 def joined_book(books):

@@ -76,9 +76,8 @@ class Leader:
             return (key, (both[0], self.over(key, both[1], ground.needs[1])))
         label, first, second = ground.tail
         spot = self.move(both[0], label, first)
-        # From one spot to one state one call is enough.
-        alike = both[0] == both[1] and first == second
-        return (key_by(key, label), (spot, spot if alike else self.move(both[1], label, second)))
+        # In one state one handle is enough.
+        return (key_by(key, label), (spot, spot if first == second else self.move(both[1], label, second)))
 
     def move(self, spot, label, state):
         """Have the next key of what stands at a spot in a state; return its spot."""

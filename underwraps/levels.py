@@ -6,7 +6,7 @@ from underwraps.paths import by_first
 from underwraps.states import is_state_dict, states_of
 
 # How much lower the state is to which a step goes on over a permit.
-FALLS = {"copy": 0, "derive": 0, "bring": 0, "show": 0, "wrap": 1, "unwrap": 1, "seal": 1, "open": 1}
+FALLS = {"copy": 0, "derive": 0, "show": 0, "wrap": 1, "unwrap": 1, "seal": 1, "open": 1}
 
 
 def step_on(why):
@@ -116,7 +116,7 @@ def is_bar(book, start, thing):
     ways = [read_step(book, given, step) for step in thing]
     if None in ways or not all([way[1] == later[0] for way, later in zip(ways, ways[1:])]):
         return False
-    return bars(ways[0][0], ways[-1][1], sum([fall for _, _, fall in ways]))
+    return bars(ways[0][0], ways[-1][1], sum([way[2] for way in ways]))
 
 
 def walk_to(ahead, place):

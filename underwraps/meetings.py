@@ -6,13 +6,8 @@ def least_meetings(lots):
     found = [()]
     for lot in lots:
         met = [some for some in found if any([permit in lot for permit in some])]
-        more = [
-            tuple(sorted(some + (permit,)))
-            for some in found
-            if some not in met
-            for permit in lot
-        ]
-        # Two that are made longer here have unlike parts: so only those that meet the lot anyway may be lesser ones.
+        more = [tuple(sorted(some + (permit,))) for some in found for permit in lot]
+        # Of two that have to be made longer none is then a lesser part of the other: just what met the lot may be.
         found = met + [
             some for some in more if not any([all([permit in some for permit in least]) for least in met])
         ]
