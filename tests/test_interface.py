@@ -82,6 +82,29 @@ FUNCTIONS = {
         "is_keeping_lot": "book start secrets thing", "least_meeting": "book lots", "lots_fault": "book start secrets thing",
         "guards": "book start secrets",
     },
+    "lotprices": {
+        "cheapest_lot": "book start secrets prices", "is_barring": "book start secrets prices price thing",
+        "barring_tree": "book start secrets prices",
+    },
+    "twobooks": {
+        "first_more": "book second start", "parting_key": "book second start", "compared": "book second start",
+        "paired_rows": "book second start root", "is_cover": "book second start thing", "parting": "book second start",
+        "is_parting": "book second start thing", "both_books": "book second", "only_together": "book second start",
+    },
+    "toldkeys": {
+        "told_book": "book start lot role", "falls_running": "book start lot asked", "felling_keys": "book start asked", "heads": "book start",
+    },
+    "shuthouses": {
+        "known_shut": "book start log lot thing", "fallen_handles": "book start log lot", "falls_shut": "book start lot asked",
+        "beneath": "book start lot", "shelter": "book start lot asked", "is_shelter": "book start lot asked thing",
+    },
+    "felling": {"felling_log": "book start lot asked"},
+    "custodies": {"is_custody": "book thing", "custodians": "book custody"},
+    "custodylogs": {"custody_fault": "book start custody tellers thing", "custody_played": "book start custody tellers log"},
+    "custodymachines": {
+        "custody_leads": "book start custody tellers ties asked", "custody_lack": "book start custody tellers machine",
+        "custody_machine": "book start custody tellers",
+    },
     "ranks": {"machine_ranks": "book start", "ranks_fault": "book start thing", "asked_rank": "book start asked state"},
 }
 CLASSES = {
@@ -122,6 +145,20 @@ class TestInterface(unittest.TestCase):
             for method, parameters in methods.items():
                 found = vars(getattr(module, word))[method]
                 self.assertEqual(list(inspect.signature(found).parameters), parameters.split())
+
+    def test_ranges_and_views_are_iterated_on_the_spot(self):
+        makers, views = ("range", "zip", "enumerate", "reversed"), ("items", "keys", "values")
+        takers = ("list", "tuple", "dict", "sorted", "sum", "any", "all", "enumerate", "zip", "min", "max", "reversed")
+        for path in PACKAGE.glob("*.py"):
+            tree = ast.parse(path.read_text())
+            spots = [node.iter for node in ast.walk(tree) if isinstance(node, (ast.For, ast.comprehension))]
+            for node in ast.walk(tree):
+                if isinstance(node, ast.Call) and isinstance(node.func, ast.Name) and node.func.id in takers:
+                    spots += node.args if node.func.id == "zip" else node.args[:1]
+            for node in ast.walk(tree):
+                if isinstance(node, ast.Call):
+                    word = getattr(node.func, "id", None) in makers or (getattr(node.func, "attr", None) in views and not node.args)
+                    self.assertTrue(not word or node in spots, (path.name, node.lineno))
 
     def test_sizes(self):
         for path in PACKAGE.glob("*.py"):

@@ -94,14 +94,27 @@ class House:
         """Return the ascending list of the keys that are known, no own ones and behind no known one."""
         return self._user.known.least_keys()
 
+    def handle_at(self, number):
+        """Return the key and the role of a handle, None if there is none with this number."""
+        return self._handles[number] if number < len(self._handles) else None
+
+    def add_handle(self, handle):
+        """Hold one handle more; return its number."""
+        self._handles.append(handle)
+        return len(self._handles) - 1
+
+    def be_told(self, key):
+        """Let the user know a key that he is told elsewhere: nothing comes out."""
+        self._user.known.take((key,))
+
     def carry_out(self, deed):
         """Do a deed that is let; return the new handle's number, or the nest that comes out."""
         keys = self.keys_of(deed)
         if deed.word in MAKERS:
-            self._handles.append(handle_by(deed, keys, self._user.made))
+            number = self.add_handle(handle_by(deed, keys, self._user.made))
             if deed.word == "make":
                 self._user.count_make()
-            return len(self._handles) - 1
+            return number
         nest = nest_by(deed, keys)
         self._user.take(nest)
         return nest

@@ -49,9 +49,9 @@ class Leader:
         self.made += 1
         return (base, {root: self.new_handle(("make", root))})
 
-    def make_ready(self, ties):
-        """Keep a key for each tie of which these come, and that needs one."""
-        for fact in facts_under(self.grounds, ties):
+    def make_ready(self, goals):
+        """Keep a key for each tie of which some facts come, and that needs one."""
+        for fact in facts_under(self.grounds, goals):
             ground = self.grounds[fact]
             if ground.word == "led" and ground.needs[0] not in self.kept:
                 self.kept[ground.needs[0]] = self.keeper(ground.needs[0])
@@ -110,6 +110,19 @@ class Leader:
             self.calls.append(("open", opener, thing))
         return None
 
+    def step(self, key, spot, word, both):
+        """Lead a key by a step of a path: over a tie, or to its next key by a word's label; return its spot then."""
+        (gone, state), (later, to) = both
+        if later == gone:
+            return self.over((key[0], key[1] + word[:gone]), spot, ("tie", state, to))
+        return self.move(spot, word[gone], to)
+
+    def lead_on(self, key, spot, word, path):
+        """Lead a key from a spot along a path, by a word; return the key that it comes to, and its spot."""
+        for both in zip(path, path[1:]):
+            spot = self.step(key, spot, word, both)
+        return ((key[0], key[1] + word), spot)
+
     def lead(self, asked, path):
         """Lead a key of an asked key along a path whose ties are ready; return the key."""
         root, word = asked
@@ -117,13 +130,10 @@ class Leader:
             base, firsts = self.begin(root)
             self.begun[root] = (base, {((), state): firsts[state] for state in firsts})
         base, spots = self.begun[root]
-        for (gone, state), (later, to) in zip(path, path[1:]):
+        for both in zip(path, path[1:]):
+            (gone, state), (later, to) = both
             if (word[:later], to) not in spots:
-                spot = spots[(word[:gone], state)]
-                if later == gone:
-                    spots[(word[:later], to)] = self.over((base, word[:gone]), spot, ("tie", state, to))
-                else:
-                    spots[(word[:later], to)] = self.move(spot, word[gone], to)
+                spots[(word[:later], to)] = self.step((base, ()), spots[(word[:gone], state)], word, both)
         return (base, word)
 
 

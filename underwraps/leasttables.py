@@ -63,7 +63,11 @@ def joined_rows(rows):
     ]
 
 
+def table_by(paths, states):
+    """Return the least table of a root with some first states, by the paths of the least machine."""
+    return Table(paths.labels, joined_rows(Bunches(paths, states).all_rows()))
+
+
 def table_of(book, given, root):
     """Return the least table of a root of a book and given keys."""
-    paths = least_paths(book, given)
-    return Table(paths.labels, joined_rows(Bunches(paths, root_states(given, root)).all_rows()))
+    return table_by(least_paths(book, given), root_states(given, root))

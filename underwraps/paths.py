@@ -63,6 +63,11 @@ class Paths:
         firsts = [(first, pair[1]) for first in self.overs.get(pair[0], [])]
         return moved + firsts + [(pair[0], second) for second in self.overs.get(pair[1], [])]
 
+    def steps_from(self, state):
+        """Return the steps from a state: None over a tie, a label by a move, each with the state it leads to."""
+        moved = [(label, later) for label in self.labels for later in self.goes.get((state, label), [])]
+        return [(None, later) for later in self.overs.get(state, [])] + moved
+
     def after(self, place, word):
         """Return the places to which one move or one tie leads from a place.
 

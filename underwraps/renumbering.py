@@ -82,6 +82,6 @@ def play_without(play, index):
 def play_behind(play, other):
     """Return the play of all deeds of one play, and, led over, all of another from the same start behind it."""
     handles, made = len(play.house.handles()), len(makes_of(play))
-    places, bases = new_numbers(other, range(len(other.deeds)), handles, made)
+    places, bases = new_numbers(other, list(range(len(other.deeds))), handles, made)
     places = with_given(other, places)
     return play.again(play.deeds + [led_deed(deed, places, bases) for deed in other.deeds])
