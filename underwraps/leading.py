@@ -9,7 +9,10 @@ from underwraps.ties import need_ties
 def states_led(paths, given, asked):
     """Return, ascending, the states to which paths lead an asked key."""
     root, word = asked
-    return paths.led(root_states(given, root), word)
+    found = paths.over(root_states(given, root))
+    for label in word:
+        found = paths.by(found, label)
+    return found
 
 
 def leads_to(book, start, ties, asked):

@@ -38,16 +38,13 @@ class Paths:
         """Return, ascending, the states to which ties lead from some, these with them."""
         return all_reached(self.overs, states)
 
+    def moved(self, states, label):
+        """Return the list of the states to which moves by a label lead from some."""
+        return [later for state in states for later in self.goes.get((state, label), [])]
+
     def by(self, states, label):
         """Return, ascending, the states to which moves by a label, and ties, lead from some."""
-        return self.over([later for state in states for later in self.goes.get((state, label), [])])
-
-    def led(self, states, word):
-        """Return, ascending, the states to which ties lead a key with these first states and a word."""
-        found = self.over(states)
-        for label in word:
-            found = self.by(found, label)
-        return found
+        return self.over(self.moved(states, label))
 
     def moved_pairs(self, pair, label):
         """Return the pairs to which moves by one label lead both states of a pair."""
