@@ -105,6 +105,15 @@ FUNCTIONS = {
         "custody_leads": "book start custody tellers ties asked", "custody_lack": "book start custody tellers machine",
         "custody_machine": "book start custody tellers",
     },
+    "custodyverdicts": {
+        "custody_verdict": "book start custody tellers asked state", "custody_judged": "book start custody tellers asked state thing",
+    },
+    "tellers": {"least_tellers": "book start custody asked", "least_loyal": "book start custody asked"},
+    "booktexts": {"book_text": "book", "read_book": "text", "book_text_fault": "text"},
+    "starttexts": {"start_text": "book start", "read_start": "book text", "start_text_fault": "book text"},
+    "thingtexts": {"thing_text": "book thing", "read_thing": "book text", "thing_text_fault": "book text"},
+    "logtexts": {"log_text": "book log", "read_log": "book text", "log_text_fault": "book text"},
+    "machinetexts": {"machine_text": "book machine", "read_machine": "book text", "machine_text_fault": "book text"},
     "ranks": {"machine_ranks": "book start", "ranks_fault": "book start thing", "asked_rank": "book start asked state"},
 }
 CLASSES = {
@@ -118,6 +127,11 @@ CLASSES = {
     }),
     "several": ("Houses", {
         "__init__": "self books starts", "call": "self house call", "handles": "self house", "out": "self", "copy": "self",
+        "__eq__": "self other",
+    }),
+    "desks": ("Desk", {
+        "__init__": "self roles labels", "allow": "self permit", "forbid": "self permit", "give": "self some", "guard": "self asked",
+        "free": "self asked", "now": "self", "guarded": "self", "would": "self permit", "undo": "self", "redo": "self", "copy": "self",
         "__eq__": "self other",
     }),
 }
