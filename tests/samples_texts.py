@@ -5,7 +5,7 @@ from tests.tools import Dice
 from underwraps.books import Book
 
 NAMES = [
-    "a", "ab", "abc", "b", "b0", "k", "known0", "knowm", "know", "knownzz", "zzzzzzzz", "zzzzzzzy", "zzzzzzz", "abcdefgh", "make", "open", "roles", "g0", "z9", "x", "y",
+    "a", "ab", "abc", "b", "b0", "k", "known0", "knowm", "know", "knownzz", "zzzzzzzz", "zzzzzzzy", "zzzzzzz", "abcdefgh", "azzzzzzz", "make", "open", "roles", "g0", "z9", "x", "y",
 ]
 SIGNS = "abkmnorstwxyz019 \n.()GZ-"
 

@@ -54,7 +54,7 @@ class TestBooks(TextCase):
             ("roles zzzzzzzz z\n", (1, 15)), ("roles zzzzzzz zzzzzzzz\nlabels zzzzzzzz \n", (2, 16)), ("roles zzzzzzz zzzzzzz0\nlabels\n", None),
             ("roles kek data\n", (1, 11)), ("roles known\n", (1, 12)), ("roles known \n", (1, 12)), ("roles known0\nlabels\n", None), ("roles a known", (1, 14)),
             ("roles knownz known\n", (1, 19)), ("roles ab a\n", (1, 11)), ("roles ab a", (1, 11)), ("roles ab aa\n", (1, 11)), ("roles ab a0\n", (1, 11)),
-            ("roles ab abb\nlabels\n", None), ("roles ab ab\n", (1, 12)), ("roles a\nlabel\n", (2, 6)), ("roles a\nroles\n", (2, 1)), ("labels\nroles\n", (1, 1)),
+            ("roles ab abb\nlabels\n", None), ("roles ab ab\n", (1, 12)), ("roles azzzzzzz a", (1, 16)), ("roles azzzzzzz b\nlabels bzzzzzzz bz\n", (2, 17)), ("roles a\nlabel\n", (2, 6)), ("roles a\nroles\n", (2, 1)), ("labels\nroles\n", (1, 1)),
             ("roles a\nlabels b a\n", (2, 10)), ("roles a\nlabels\n\n", (3, 1)), ("roles a\nlabels\nmake a", (3, 7)), ("roles a\nlabels\nmake a \n", (3, 7)),
             ("roles a\nlabels\nmake b\n", (3, 6)), ("roles a\nlabels\nmake\n", (3, 5)), ("roles a\nlabels\nmakea\n", (3, 5)), ("roles a\nlabels\nderive a\n", (3, 1)),
             ("roles\nlabels x\nmake x\n", (3, 1)), ("roles\nlabels x\nd", (3, 1)), ("roles a\nlabels x\nd", (3, 2)), ("roles a ab\nlabels\nmake ab\nmake a\n", (4, 1)),

@@ -134,6 +134,16 @@ class TestDeeds(DeskCase):
             self.raises(NotGuarded, thing, desk.free, thing)
         self.assertEqual(desk, before)
 
+    def test_what_only_looks_guarded(self):
+        desk = Desk(["a"], ["x"])
+        desk.give([])
+        desk.give([])
+        for asked in ((0, ()), (1, ()), (0, ("x",)), (1, ["x"])):
+            desk.guard(asked)
+        for thing in ((False, ()), (True, ()), (0.0, ()), (1.0, []), ("0", ()), (0, [Hostile()]), (1, [Hostile()]), (Hostile(), ()), (0, ["y"]), (0, "x"), (0, {})):
+            self.raises(BadAsked, thing, desk.free, thing)
+        self.assertEqual(len(desk.guarded()), 4)
+
     def test_guarded_ones_that_cannot_be_made_now(self):
         desk = filled()
         desk.forbid(("make", "data"))

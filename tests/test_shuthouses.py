@@ -132,6 +132,19 @@ class TestForms(WrapCase):
         self.assertEqual(beneath(Book(book.all_roles(), ["x"], [permit for permit in book.all_permits() if permit != ("make", "d")]), start, [0]), ["c"])
 
 
+    def test_a_chain_by_a_key_that_is_led_itself(self):
+        book = Book(["k", "q", "s", "w", "z"], [], [
+            ("make", "z"), ("make", "w"), ("wrap", "w", "z"), ("unwrap", "w", "q"), ("wrap", "k", "q"), ("wrap", "z", "s"),
+        ])
+        start = [["k"], ["s"]]
+        self.assertEqual(beneath(book, start, [0]), ["q", "s"])
+        log, key = felling_log(book, start, [0], (1, ()))
+        house, _, fault = plain_log(book.all_permits(), start, log)
+        self.assertEqual((fault, key), (None, G[1]))
+        self.says(True, plain_knows(house.out + [G[0]], key))
+        self.says(False, plain_knows(house.out, key))
+
+
 class TestWrong(WrapCase):
     def test_bad_log(self):
         for thing in [None, "ab", "", 0, True, {}, Hostile(), iter([])]:

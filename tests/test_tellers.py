@@ -43,6 +43,14 @@ class TestTellers(WrapCase):
         self.assertEqual(least_tellers(book, [["k"], ["d"]], custody, (0, ())), [["ann"]])
         self.assertEqual(least_loyal(book, [["k"], ["d"]], custody, (0, ())), [["ann"]])
 
+    def test_shorter_ones_do_not_stand_ahead(self):
+        # Either key is known, and may be joined by those who hold parts of it together with who tells.
+        book = Book(["d", "j", "r", "s"], [], [("show", "r"), ("show", "s"), ("wrap", "j", "d")])
+        custody = (3, [("r", "ann"), ("r", "bob"), ("s", "cyd")], ["j"])
+        start = [["r"], ["s"], ["d"]]
+        self.assertEqual(least_tellers(book, start, custody, (2, ())), [["ann", "bob"], ["cyd"]])
+        self.assertEqual(least_loyal(book, start, custody, (2, ())), [["ann", "cyd"], ["bob", "cyd"]])
+
     def test_forms(self):
         for shape in (as_lists, as_tuples):
             for call in (least_tellers, least_loyal):

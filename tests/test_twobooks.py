@@ -305,7 +305,7 @@ class TestCovers(WrapCase):
         self.says(True, is_cover(WRAPS, DERIVES, START, good))
         for thing in odd_things() + empties() + [
             None, "", {0: good[0], 1: good[1], 2: good[2]}, iter(good), [good[0], good[1], None], [good[0], good[1], {(0, 0)}], [good[0], good[1], "00"],
-            [good[0], good[1], [(0, 0, 0)]], [good[0], good[1], [(0, True)]], [good[0], good[1], [(0, False)]], [good[0], good[1], [(0, 0.0)]],
+            [good[0], good[1], [(0, 0, 0)]], [good[0], good[1], [(0, 0), (0, 0, 0)]], [good[0], good[1], [(0, 0), (0,)]], [good[0], good[1], [(0, True)]], [good[0], good[1], [(0, False)]], [good[0], good[1], [(0, 0.0)]],
             [good[0], good[1], [(0, -1)]], [good[0], good[1], [("0", 0)]], [good[0], good[1], ["00"]], [good[0], good[1], [(0, Hostile())]],
             [good[0], good[1], [Hostile()]], [good[0], good[1], Hostile()], [Hostile()] * 3, [good[0], good[1], [{0: 0, 1: 0}]],
         ]:

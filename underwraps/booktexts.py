@@ -21,7 +21,7 @@ def scan_names(scan, word, barred):
     """Take a line of a word and ascending names, none of them a barred one; return the names."""
     names, above = [], ""
     scan.take(word)
-    while scan.sign() == " " and above != LAST_NAME:
+    while scan.next_sign() == " " and above != LAST_NAME:
         scan.take(" ")
         above = scan.take_name(above, barred)
         names.append(above)
@@ -61,7 +61,7 @@ def scan_permits(scan, roles, labels):
     pools = {word: [roles if kind == "role" else labels for kind in PERMITS[word]] for word in PERMITS}
     pools = {word: pools[word] for word in pools if [] not in pools[word]}
     permits = []
-    while scan.sign() != "":
+    while scan.next_sign() != "":
         permits.append(scan_permit(scan, pools, permits[-1] if permits else None))
     return permits
 

@@ -56,15 +56,15 @@ class CustodyPlay:
             return "call"
         if role not in self.custody.joins:
             return "join"
-        if len(self.holders(key)) < self.custody.need:
+        if self.many_holders(key) < self.custody.need:
             return "need"
         self.house.add_handle((key, role))
         return None
 
-    def holders(self, key):
-        """Return the ascending list of the custodians who hold a key."""
-        got = list(self.got.get(key, []))
-        return sorted(set(got + self.tellers if self.house.is_known((key,)) else got))
+    def many_holders(self, key):
+        """Return how many custodians hold a key: those who got a part of it, and all tellers, if it is known."""
+        telling = self.tellers if self.house.is_known((key,)) else []
+        return len(set(list(self.got.get(key, [])) + telling))
 
 
 def play_custody(book, start, custody, tellers, thing):

@@ -23,26 +23,26 @@ def read_likely(book, thing):
 class Place:
     """What a desk has come to: a book, the roles of its given keys, and the asked keys that are guarded."""
 
-    def __init__(self, book, given, guarded):
+    def __init__(self, book, given, watched):
         self.book = book
         self.given = given
-        self.guarded = guarded
+        self.watched = watched
 
     def first_out(self):
         """Return the first guarded key that comes out, None if none does; one that cannot be made does not."""
         paths = least_paths(self.book, self.given)
-        for asked in self.guarded:
+        for asked in self.watched:
             if is_root(self.book, self.given, asked[0]) and "known" in states_led(paths, self.given, asked):
                 return asked
         return None
 
     def with_permits(self, permits):
         """Return the place with just these permits."""
-        return Place(Book(self.book.all_roles(), self.book.all_labels(), permits), self.given, self.guarded)
+        return Place(Book(self.book.all_roles(), self.book.all_labels(), permits), self.given, self.watched)
 
     def shown(self):
         """Return what the place is told apart by."""
-        return (self.book, self.given, self.guarded)
+        return (self.book, self.given, self.watched)
 
 
 class Desk:
@@ -100,7 +100,7 @@ class Desk:
         row = roles_row(place.book, some)
         if row is None:
             raise BadGiven(some)
-        self.let_in("give", Place(place.book, place.given + (row,), place.guarded))
+        self.let_in("give", Place(place.book, place.given + (row,), place.watched))
         return len(place.given)
 
     def guard(self, asked):
@@ -109,19 +109,19 @@ class Desk:
         found = read_asked(place.book, place.given, asked)
         if found is None:
             raise BadAsked(asked)
-        if found in place.guarded:
+        if found in place.watched:
             raise IsGuarded(asked)
-        self.let_in("guard", Place(place.book, place.given, place.guarded + (found,)))
+        self.let_in("guard", Place(place.book, place.given, place.watched + (found,)))
 
     def free(self, asked):
         """Guard an asked key no more."""
         place = self._place
         found = read_likely(place.book, asked)
-        if found is None or found not in place.guarded:
+        if found not in place.watched:
             if read_asked(place.book, place.given, asked) is None:
                 raise BadAsked(asked)
             raise NotGuarded(asked)
-        left = tuple([other for other in place.guarded if other != found])
+        left = tuple([other for other in place.watched if other != found])
         self.come_to("free", Place(place.book, place.given, left))
 
     def now(self):
@@ -130,7 +130,7 @@ class Desk:
 
     def guarded(self):
         """Return the list of the guarded asked keys, in the order in which they were guarded."""
-        return list(self._place.guarded)
+        return list(self._place.watched)
 
     def would(self, permit):
         """Return the guarded key that a permit would let out, and a log that tells it, None if it lets out none."""

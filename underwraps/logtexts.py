@@ -63,7 +63,7 @@ def scan_call(scan, book, words):
 def scan_log(book, text):
     """Return the scan of a text, as that of a list of calls, and the calls."""
     scan, calls, words = Scan(text), [], likely_words(book)
-    while scan.sign() != "":
+    while scan.next_sign() != "":
         calls.append(scan_call(scan, book, words))
     return (scan, calls)
 

@@ -33,7 +33,7 @@ def scan_machine(book, text):
     every = in_order(all_facts(book))
     lines = [line_of(fact) for fact in every]
     begun = 0
-    while scan.sign() != "":
+    while scan.next_sign() != "":
         line = scan.take_one(lines[begun:])
         if not scan.stuck:
             facts.append(every[lines.index(line)])

@@ -27,14 +27,14 @@ class Scan:
         self.at = 0
         self.stuck = False
 
-    def sign(self):
+    def next_sign(self):
         """Return the next sign, "" if there is none, or the text got stuck."""
         return "" if self.stuck else self.text[self.at:self.at + 1]
 
     def take(self, word):
         """Take just these signs."""
         for sign in word:
-            if self.sign() == sign:
+            if self.next_sign() == sign:
                 self.at += 1
             else:
                 self.stuck = True
@@ -42,7 +42,7 @@ class Scan:
     def take_one(self, words):
         """Take one of some words, the longest one that stands next; return it."""
         begun, left = self.at, words
-        while self.sign() != "" and left:
+        while self.next_sign() != "" and left:
             begins = self.text[begun:self.at + 1]
             left = [word for word in left if word.startswith(begins)]
             if left:
@@ -55,10 +55,10 @@ class Scan:
     def take_name(self, above, barred):
         """Take a name above another one, and other than a barred one; return it."""
         begun = self.at
-        while self.sign() != "" and begins_above(self.text[begun:self.at + 1], above):
+        while self.next_sign() != "" and begins_above(self.text[begun:self.at + 1], above):
             self.at += 1
         found = self.text[begun:self.at]
-        if not is_name(found) or found <= above or found == barred:
+        if found <= above or found == barred:
             self.stuck = True
         return found
 
@@ -66,7 +66,7 @@ class Scan:
         """Take a number in figures, without a 0 ahead of others; return the figures."""
         begun = self.at
         # "" stands in each string.
-        while self.sign() != "" and self.sign() in FIGURES and self.may_go_on(self.text[begun:self.at]):
+        while self.next_sign() != "" and self.next_sign() in FIGURES and self.may_go_on(self.text[begun:self.at]):
             self.at += 1
         if self.at == begun:
             self.stuck = True

@@ -49,7 +49,7 @@ class Side:
         self.given = given
         self.paths = least_paths(book, given)
 
-    def table(self, root):
+    def table_for(self, root):
         """Return the least table of a root; of one that the book does not make one row, that says False."""
         if is_root(self.book, self.given, root):
             return table_by(self.paths, root_states(self.given, root))
@@ -92,14 +92,14 @@ class Sides:
 
     def rows_of(self, root):
         """Return the rows of both books' tables of a root, side by side."""
-        return Rows([side.table(root) for side in self.sides])
+        return Rows([side.table_for(root) for side in self.sides])
 
 
 def first_asked(sides, roots, wanted):
     """Return the first asked key that comes out of some sides just as one of some wanted outs says, None if none."""
     least = None
     for root in roots:
-        word = Rows([side.table(root) for side in sides]).first_to(wanted)
+        word = Rows([side.table_for(root) for side in sides]).first_to(wanted)
         if word is not None and (least is None or len(word) < len(least[1])):
             least = (root, word)
     return least

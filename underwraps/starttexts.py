@@ -16,7 +16,7 @@ def scan_given(scan, roles):
     """Take the line of a given key; return its roles."""
     row, left = [], roles
     scan.take("given")
-    while scan.sign() == " " and left:
+    while scan.next_sign() == " " and left:
         scan.take(" ")
         row.append(scan.take_one(left))
         left = [role for role in roles if role > row[-1]]
@@ -27,7 +27,7 @@ def scan_given(scan, roles):
 def scan_start(book, text):
     """Return the scan of a text, as that of a start, and the start."""
     scan, rows = Scan(text), []
-    while scan.sign() != "":
+    while scan.next_sign() != "":
         rows.append(scan_given(scan, book.all_roles()))
     return (scan, rows)
 

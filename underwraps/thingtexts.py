@@ -30,7 +30,7 @@ def scan_key(scan, labels):
     """Take a key; return it, None if there is none."""
     letter, word = scan.take_one(sorted(BASE_WORDS)), ()
     number = scan.take_number()
-    while scan.sign() == "." and labels:
+    while scan.next_sign() == "." and labels:
         scan.take(".")
         word = word + (scan.take_one(labels),)
     return None if scan.stuck else ((BASE_WORDS[letter], int(number)), word)
@@ -39,7 +39,7 @@ def scan_key(scan, labels):
 def scan_nest(scan, labels):
     """Take a thing; return its nest, None if there is none."""
     keys = [scan_key(scan, labels)]
-    while scan.sign() == "(":
+    while scan.next_sign() == "(":
         scan.take("(")
         keys.append(scan_key(scan, labels))
     scan.take(")" * (len(keys) - 1))
