@@ -41,10 +41,10 @@ class CustodyGrowth:
         while self.take(led_by_pairs(self.rules, self.keepers)):
             self.meet()
 
-    def take(self, grounds):
+    def take(self, made):
         """Have the ties of some grounds; tell whether one of them was not there."""
         many = len(self.grounds)
-        for ground in grounds:
+        for ground in made:
             self.grounds.setdefault(ground.says[1:], ground)
         return len(self.grounds) > many
 

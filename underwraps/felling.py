@@ -32,7 +32,7 @@ def source_key(leader, source):
 
 
 def wrapped_log(given, grounds, links, found):
-    """Return a log that wraps keys one under another, an asked key's last of all, and this key."""
+    """Return a log that wraps keys one under another, a key that an asked one is behind last of all, and its base."""
     asked, path = found
     leader = Leader(given, grounds)
     pairs = [("pair",) + source for source, _ in links if not is_number(source[0])]
@@ -43,11 +43,11 @@ def wrapped_log(given, grounds, links, found):
         key, (lying, spot) = source_key(leader, source)
         if closer is not None:
             leader.calls.append(("wrap", closer, lying))
-        _, closer = leader.lead_on(key, spot, word, road)
+        closer = leader.lead_on(key, spot, word, road)
     base, spots = leader.begin(asked[0])
-    key, spot = leader.lead_on((base, ()), spots[path[0][1]], asked[1], path)
-    leader.calls.append(("wrap", closer, spot))
-    return (leader.calls, key)
+    lying = leader.lead_on((base, ()), spots[path[0][1]], asked[1], path)
+    leader.calls.append(("wrap", closer, lying))
+    return (leader.calls, base)
 
 
 def felling_log(book, start, lot, asked):
@@ -67,5 +67,5 @@ def felling_log(book, start, lot, asked):
     if found is None:
         return None
     role = found[1][-1][1]
-    log, key = wrapped_log(given, growth.grounds, links_to(under, role), found)
-    return (log, (key[0], word))
+    log, base = wrapped_log(given, growth.grounds, links_to(under, role), found)
+    return (log, (base, word))

@@ -118,10 +118,10 @@ class Leader:
         return self.move(spot, word[gone], to)
 
     def lead_on(self, key, spot, word, path):
-        """Lead a key from a spot along a path, by a word; return the key that it comes to, and its spot."""
+        """Lead a key from a spot along a path, by a word; return its spot then."""
         for both in zip(path, path[1:]):
             spot = self.step(key, spot, word, both)
-        return ((key[0], key[1] + word), spot)
+        return spot
 
     def lead(self, asked, path):
         """Lead a key of an asked key along a path whose ties are ready; return the key."""
