@@ -1,6 +1,6 @@
 """19.3, 19.4, 19.7: hulls, where asked keys lead with custodians, custody machines."""
 
-from tests.each import NO_ASKED, NO_TIES
+from tests.each import NO_ASKED
 from tests.plaincustody import (
     all_tellers, lots_of_states, plain_custody_lack, plain_custody_leads, plain_custody_least, plain_hull,
 )
@@ -75,7 +75,6 @@ class TestLeads(WrapCase):
             self.raises(BadTies, 0, custody_leads, BOOK, [], CUSTODY, [], thing, Hostile())
         for thing in odd_things() + [("a", "a"), ("a", "q"), ("a", "k")]:
             self.raises(BadTies, 1, custody_leads, BOOK, [], CUSTODY, [], [("a", "k"), thing, None], Hostile())
-        self.assertGreater(len(NO_TIES), 5)
         for thing in NO_ASKED + [("a", ())]:
             self.raises(BadAsked, thing, custody_leads, BOOK, [], CUSTODY, [], [], thing)
         for thing in NO_MACHINES + [ring()]:

@@ -8,7 +8,7 @@ from tests.plaincustody import (
 from tests.plainrules import all_asked, all_ties, plain_states
 from tests.plainwords import keys_asked
 from tests.samples_custody import some_custody, some_custody_log
-from tests.test_custodies import BARE, BOOK, CUSTODY, LOG, M, NAMES, NONE, OPENS
+from tests.test_custodies import BARE, BOOK, CUSTODY, LOG, NAMES, NONE, OPENS
 from tests.tools import Dice, Hostile, WrapCase, as_lists, as_tuples, empties, odd_things
 from underwraps.books import Book
 from underwraps.custodymachines import custody_machine
@@ -74,6 +74,14 @@ class TestVerdict(WrapCase):
                 self.assertEqual(repr(told), repr(custody_verdict(BOOK, [], CUSTODY, tellers, ("k", ()), "known")))
                 self.assertEqual(custody_judged(
                     thing=shape(told), state="known", asked=shape(("k", ())), tellers=shape(tellers), custody=shape(CUSTODY), start=shape([]), book=BOOK), word)
+
+    def test_the_same_in_any_order(self):
+        for count in range(60):
+            dice, book, start, custody, tellers = some_custody(count)
+            other = (custody[0], dice.mixed(custody[1]), dice.mixed(custody[2]))
+            for asked in all_asked(book, start, 1):
+                told = custody_verdict(book, start, custody, tellers, asked, "known")
+                self.assertEqual(custody_verdict(book, start, other, dice.mixed(tellers), asked, "known"), told)
 
     def test_wrong(self):
         for thing in NO_ASKED + [("a", ())]:
@@ -154,7 +162,6 @@ class TestJudged(WrapCase):
         self.assertEqual(custody_judged(BOOK, [], CUSTODY, ["ann", "bob"], asked, "known", ("told", LOG[:3])), "told")
         self.assertEqual(custody_judged(BOOK, [], CUSTODY, ["ann"], asked, "known", ("told", LOG[:3])), None)
         self.assertEqual(custody_judged(BOOK, [], CUSTODY, [], ("known", ()), "known", ("told", [])), "told")
-        self.assertEqual(M[0], (("made", 0), ()))
 
     def test_any_object(self):
         for thing in odd_things() + empties() + [None, "never", {}, iter([])]:

@@ -2,7 +2,6 @@
 
 from tests.each import NO_ASKED
 from tests.plaindesk import PlainDesk, Refusal
-from tests.plainrules import plain_states
 from tests.plainwords import plain_brings, plain_reach
 from tests.samples import all_permits
 from tests.tools import Dice, Hostile, Odd, WrapCase, as_lists, as_tuples, empties, odd_things, ring
@@ -437,7 +436,6 @@ class TestByPlainDesk(DeskCase):
             dice = Dice(count)
             book = Book(["a", "b"], [], dice.part(all_permits(["a", "b"], [])))
             less = Book(["a", "b"], [], dice.part(book.all_permits()))
-            self.assertEqual(len(plain_states(book)), 3)
             self.assertLessEqual(plain_reach(less, [["a"]], (0, ())), plain_reach(book, [["a"]], (0, ())))
 
     def test_forms(self):

@@ -2,7 +2,6 @@
 
 from tests.each import BOOK, NO_ASKED, NO_LISTS, NO_STATES, START, Each, listed, very, wrong_by_name
 from tests.test_custodies import NO_CUSTODIES, NO_TELLERS, not_empty
-from tests.test_custodymachines import NO_MACHINES
 from tests.test_each_later import CUSTODY
 from tests.tools import Hostile, WrapCase, empties, odd_things
 from underwraps.booktexts import book_text, book_text_fault, read_book
@@ -50,7 +49,6 @@ class TestEach(Each, WrapCase):
             named["thing"] = thing
             self.assertIsNone(custody_judged(**named))
             self.raises(BadThing, thing, thing_text, BOOK, thing)
-        self.assertGreater(len(NO_MACHINES), 10)
 
 
 def thing_is_wrong(thing):

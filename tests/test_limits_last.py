@@ -1,6 +1,5 @@
 """2.3, 2.4, and the heads of 19 to 21: custodians' verdicts, tellers, desks, texts are answered in seconds at the limits."""
 
-from tests.plaincustody import plain_custody_log
 from tests.samples import all_permits
 from tests.samples_texts import changed_texts, some_calls
 from tests.test_custodyverdicts import plain_custody_brings
@@ -35,8 +34,6 @@ class TestCustodians(WrapCase):
                 told = self.in_seconds(custody_verdict, book, start, custody, tellers, asked, state)
                 self.assertEqual(self.in_seconds(custody_judged, book, start, custody, tellers, asked, state, as_lists(told)), told[0])
                 if told[0] == "told":
-                    _, fault = plain_custody_log([], start, custody, tellers, [])
-                    self.assertIsNone(fault)
                     longest = max(longest, len(told[1]))
             lists = max(lists, len(self.in_seconds(least_tellers, book, start, custody, asked)))
             self.in_seconds(least_loyal, book, start, custody, asked)

@@ -2,7 +2,7 @@
 
 from tests.each import NO_ASKED
 from tests.plain import plain_knows, plain_log
-from tests.plainrules import all_asked, all_pairs, all_ties, plain_closed, plain_leads, plain_moves, plain_roots
+from tests.plainrules import all_asked, all_pairs, all_ties, plain_closed, plain_leads, plain_moves
 from tests.plaintiers import all_lots
 from tests.plainwords import all_logs, keys_asked, plain_least
 from tests.samples import all_permits, some_case
@@ -293,6 +293,3 @@ class TestShelters(WrapCase):
     def test_any_object(self):
         for thing in odd_things() + empties() + [None, "", {}, Odd(), iter([])]:
             self.says(False, is_shelter(BOOK, START, [0], (1, ()), thing))
-
-    def test_roots_are_first_states(self):
-        self.assertEqual(plain_roots(BOOK, START), {0: {"kek"}, 1: {"s"}, "known": {"known"}})

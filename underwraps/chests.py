@@ -110,11 +110,11 @@ def likely_keys(nests):
     """Return, ascending, the keys that no next key can stand in for: those in nests, and where they part."""
     standing = sorted(set([key for nest in nests for key in nest]))
     # All others have, of those in nests, just the same ones behind them as one next key of theirs has.
-    parting = [parting_key(key, later) for key, later in zip(standing, standing[1:]) if key[0] == later[0]]
+    parting = [key_ahead_of_both(key, later) for key, later in zip(standing, standing[1:]) if key[0] == later[0]]
     return sorted(set(standing + parting))
 
 
-def parting_key(key, other):
+def key_ahead_of_both(key, other):
     """Return of two unlike keys with one base the key where their words part."""
     many = 0
     while key[1][:many + 1] == other[1][:many + 1]:

@@ -19,7 +19,7 @@ class Custody:
         return any([(role, name) in self.parts for role in roles])
 
 
-def read_part(book, thing):
+def read_share(book, thing):
     """Return the pair of a role and a custodian's name that any object is, None if it is none."""
     if not is_list(thing) or len(thing) != 2 or not book.has_role(thing[0]) or not is_name(thing[1]):
         return None
@@ -30,7 +30,7 @@ def read_custody(book, thing):
     """Return the custody that any object is, None if it is none."""
     if not is_list(thing) or len(thing) != 3 or not is_list(thing[1]):
         return None
-    need, parts, joins = thing[0], [read_part(book, part) for part in thing[1]], thing[2]
+    need, parts, joins = thing[0], [read_share(book, part) for part in thing[1]], thing[2]
     if not is_number(need) or need == 0 or first_wrong(parts) is not None:
         return None
     if not are_names(joins) or not all([book.has_role(role) for role in joins]):
@@ -53,10 +53,10 @@ def need_custody(book, custody):
 
 
 def need_tellers(custody, tellers):
-    """Return the list of the tellers that are passed; raise BadTellers for what is no list of custodians."""
+    """Return the tellers that are passed, ascending; raise BadTellers for what is no list of custodians."""
     if not are_names(tellers) or not all([name in custody.names for name in tellers]):
         raise BadTellers(tellers)
-    return list(tellers)
+    return sorted(tellers)
 
 
 def custodians(book, custody):

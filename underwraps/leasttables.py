@@ -50,7 +50,7 @@ def parted_rows(rows):
     return numbers
 
 
-def joined_rows(rows):
+def rows_made_one(rows):
     """Return the rows without those that no word parts from one ahead, in their order."""
     numbers = parted_rows(rows)
     places = {}
@@ -65,7 +65,7 @@ def joined_rows(rows):
 
 def table_by(paths, states):
     """Return the least table of a root with some first states, by the paths of the least machine."""
-    return Table(paths.labels, joined_rows(Bunches(paths, states).all_rows()))
+    return Table(paths.labels, rows_made_one(Bunches(paths, states).all_rows()))
 
 
 def table_of(book, given, root):

@@ -34,7 +34,7 @@ def stands_in(ahead, play, base, key):
     return wanted is not None and all([(key, role) in handles for role in wanted])
 
 
-def need_table(book, ahead, play, table):
+def need_bases(book, ahead, play, table):
     """Return the table that is passed, from bases to keys; raise BadTable for none."""
     if not isinstance(table, dict):
         raise BadTable(table)
@@ -53,7 +53,7 @@ def led_by(book, start, first, log, table):
     if fault is not None:
         raise BadFirst(fault[0])
     play = need_play(book, start, log)
-    found = need_table(book, ahead, play, table)
+    found = need_bases(book, ahead, play, table)
     makes = makes_of(play)
     gone = [at for made, at in enumerate(makes) if ("made", made) in found]
     order = [at for at in range(len(play.deeds)) if at not in gone]

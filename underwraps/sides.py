@@ -32,7 +32,7 @@ def both_rows(book, second, start):
     return tuple(rows)
 
 
-def joined_book(book, second):
+def book_of_both(book, second):
     """Return the book of all roles and permits of both."""
     return Book(
         sorted(set(book.all_roles() + second.all_roles())),
@@ -86,7 +86,7 @@ class Sides:
     def __init__(self, book, second, start):
         need_both(book, second)
         self.given = both_rows(book, second, start)
-        self.book = joined_book(book, second)
+        self.book = book_of_both(book, second)
         self.roots = all_roots(self.book, self.given)
         self.sides = [Side(book, self.given), Side(second, self.given)]
 

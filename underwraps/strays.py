@@ -9,7 +9,7 @@ from underwraps.paths import Paths
 from underwraps.ties import need_ties
 
 
-def need_house(book, given, house):
+def need_house_of(book, given, house):
     """Raise BadHouse for what is no House of this book and of given keys with these roles."""
     if not isinstance(house, House) or house.book() != book:
         raise BadHouse(house)
@@ -22,7 +22,7 @@ def strays(book, start, ties, house):
     need_book(book)
     given = start_rows(book, start)
     paths = Paths(book, need_ties(book, ties))
-    need_house(book, given, house)
+    need_house_of(book, given, house)
     handles = house.handles()
     roles = first_roles(handles)
     numbers = [

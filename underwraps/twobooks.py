@@ -3,7 +3,7 @@
 from underwraps.errors import BadRoot
 from underwraps.forms import is_list, is_number
 from underwraps.machines import is_closed, least_machine
-from underwraps.sides import Side, Sides, first_asked, joined_book, need_both
+from underwraps.sides import Side, Sides, book_of_both, first_asked, need_both
 from underwraps.states import is_root, read_asked
 from underwraps.verdicts import brings, keeps_from, verdict
 
@@ -93,7 +93,7 @@ def parting(book, second, start):
 def both_books(book, second):
     """Return the Book of all roles and permits of both."""
     need_both(book, second)
-    return joined_book(book, second)
+    return book_of_both(book, second)
 
 
 def only_together(book, second, start):
