@@ -4,6 +4,7 @@ from itertools import combinations
 
 from tests.plain import PlainHouse, Refused, plain_knows
 from tests.plainrules import plain_moves, plain_roots, plain_states, tied
+from tests.plainwords import all_calls
 
 
 def names_of(custody):
@@ -155,3 +156,33 @@ def lots_of_states(book):
     """Return all ascending lists of states."""
     states = plain_states(book)
     return [list(some) for many in range(len(states) + 1) for some in combinations(states, many)]
+
+
+def all_custody_calls(book, custody, house):
+    """Return the calls that a user may try with custodians: all but those that hand over things that are deep."""
+    numbers = range(len(house.handles))
+    keys = sorted({key for key, _ in house.handles} | {key for key, _ in house.got} | {(("own", 0), ())})
+    handed = [("part", number, name) for number in numbers for name in names_of(custody)]
+    return all_calls(book, house) + handed + [("join", key, role) for key in keys for role in custody[2]]
+
+
+def all_custody_logs(book, start, custody, tellers, many):
+    """Return, for all that custody logs of at most so many calls come to, one such log: (log, house)."""
+    level, seen = [([], PlainCustodyHouse(book.all_permits(), start, custody, tellers))], {}
+    while level:
+        further = []
+        for log, house in level:
+            place = (tuple(house.handles), tuple(sorted(map(repr, house.out))), house.made, tuple(sorted(house.got)))
+            if place in seen:
+                continue
+            seen[place] = (log, house)
+            for call in all_custody_calls(book, custody, house) if len(log) < many else []:
+                other = PlainCustodyHouse(book.all_permits(), start, custody, tellers)
+                other.handles, other.out, other.made, other.got = list(house.handles), list(house.out), house.made, list(house.got)
+                try:
+                    other.call(call)
+                except Refused:
+                    continue
+                further.append((log + [call], other))
+        level = further
+    return list(seen.values())

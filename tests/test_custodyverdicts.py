@@ -3,10 +3,11 @@
 from tests.each import NO_ASKED, NO_STATES
 from tests.plain import plain_knows
 from tests.plaincustody import (
-    all_tellers, lots_of_states, plain_custody_lack, plain_custody_leads, plain_custody_least, plain_custody_log,
+    all_custody_logs, all_tellers, lots_of_states, plain_custody_lack, plain_custody_leads, plain_custody_least, plain_custody_log,
 )
 from tests.plainrules import all_asked, all_ties, plain_states
 from tests.plainwords import keys_asked
+from tests.samples import all_permits
 from tests.samples_custody import some_custody, some_custody_log
 from tests.test_custodies import BARE, BOOK, CUSTODY, LOG, NAMES, NONE, OPENS
 from tests.tools import Dice, Hostile, WrapCase, as_lists, as_tuples, empties, odd_things
@@ -124,6 +125,30 @@ class TestVerdict(WrapCase):
                         self.assertEqual(custody_verdict(book, start, custody, tellers, asked, state)[0], "told")
                         looked += 1
         self.assertGreater(looked, 800)
+
+    def test_by_all_custody_logs_of_few_calls(self):
+        """What never comes comes by none of them; what some of them brings is told."""
+        came = never = 0
+        for count in range(70):
+            dice, roles = Dice(count), ["a", "b"]
+            every = [permit for permit in all_permits(roles, []) if permit[0] not in ("show", "bring")]
+            book, start = Book(roles, [], sorted(set(dice.some(every, 3)))), [[dice.one(roles)]]
+            pairs = dice.mixed([(role, name) for role in roles for name in NAMES[:2]])[:3]
+            custody = (dice.one([1, 2]), pairs, dice.part(roles))
+            tellers = dice.part(sorted({name for _, name in pairs}))
+            logs = all_custody_logs(book, start, custody, tellers, 3)
+            for asked in all_asked(book, start, 0):
+                for state in plain_states(book):
+                    brought = [log for log, house in logs if self.is_there(house, keys_asked(log, asked), state)]
+                    if custody_verdict(book, start, custody, tellers, asked, state)[0] == "never":
+                        self.assertEqual(brought, [])
+                        never += 1
+                    came += len(brought) > 0
+        self.assertGreater(min(came, never), 100)
+
+    def is_there(self, house, keys, state):
+        """Tell whether one of some keys is in a state."""
+        return any([plain_knows(house.out, key) if state == "known" else (key, state) in house.handles for key in keys])
 
     def test_19_5_without_parts_and_joins(self):
         for count in range(80):
